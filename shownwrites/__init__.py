@@ -1,0 +1,1 @@
+"""Shownwrites: writing through views of keyed tables."""
