@@ -108,9 +108,7 @@ class Body:
         return self.region(column).value
 
     def spot_of(self, column):
-        """The place of the column's table in the body, and the place of the column in it."""
-        if column not in self._spots:
-            raise NoColumn(column)
+        """The place of a known column's table in the body, and its own place in the table."""
         return self._spots[column]
 
     def heads_of(self, name):

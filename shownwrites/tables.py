@@ -16,16 +16,14 @@ def is_name(text):
 
 def are_columns(columns):
     """True if a table can have these columns."""
-    if len(columns) == 0 or len(set(columns)) < len(columns):
-        return False
-    return all([is_name(column) for column in columns])
+    distinct = len(columns) > 0 and len(set(columns)) == len(columns)
+    return distinct and all([is_name(column) for column in columns])
 
 
 def is_key(key, columns):
     """True if a table with these columns can have this key."""
-    if len(key) == 0 or len(set(key)) < len(key):
-        return False
-    return all([column in columns for column in key])
+    distinct = len(key) > 0 and len(set(key)) == len(key)
+    return distinct and all([column in columns for column in key])
 
 
 class Table:

@@ -256,6 +256,12 @@ class Equality(unittest.TestCase):
             self.assertIs(body == other, False)
             self.assertIs(body != other, True)
 
+    def test_same_heads_but_other_classes(self):
+        one = Body([A, B, C], [("a.k", "c.y")])
+        two = Body([A, B, C], [("b.x", "c.y")])
+        self.assertEqual(one.open_heads, two.open_heads)
+        self.assertIs(one == two, False)
+
 
 class Copies(unittest.TestCase):
     def test_lists_are_copied(self):

@@ -3,7 +3,11 @@
 import unittest
 
 from shownwrites.bodies import Body
+from shownwrites.closures import closure, split, steps
+from shownwrites.edits import Edit
 from shownwrites.regions import Region
+from shownwrites.rows import derivations, walk
+from shownwrites.stores import Store
 from shownwrites.tables import Table
 
 ORDERS = Table("orders", ["id", "buyer"], ["id"])
@@ -23,6 +27,40 @@ class Examples(unittest.TestCase):
                           "orders.buyer", "1.."])
         self.assertEqual([BODY.heads_of("buyers"), BODY.key_heads("buyers"), BODY.fixed("buyers.city")],
                          [("orders.buyer", "buyers.city"), ("orders.buyer",), None])
+
+    def test_edits(self):
+        first = Edit([("b", (2,), (2, 5), (2, 6)), ("a", (1,), None, (1, 7))])
+        second = Edit([("b", (2,), (2, 6), (2, 5)), ("a", (1,), (1, 7), (1, 8))])
+        self.assertEqual([first.changes, (first + second).changes, (-first)["b", (2,)]], [
+            (("a", (1,), None, (1, 7)), ("b", (2,), (2, 5), (2, 6))),
+            (("a", (1,), None, (1, 8)),), ((2, 6), (2, 5))])
+
+    def test_stores(self):
+        table = Table("people", ["id", "city"], ["id"])
+        store = Store([table], {"people": [(10, 1), (9, 2)]})
+        other = Store([table], {"people": [(9, 3), (2, 2)]})
+        self.assertEqual([store["people"], (store - other).changes, other + (store - other) == store], [
+            [(9, 2), (10, 1)],
+            (("people", (2,), (2, 2), None), ("people", (9,), (9, 3), (9, 2)),
+             ("people", (10,), None, (10, 1))), True])
+
+    def test_closures(self):
+        self.assertEqual(closure(BODY, ["orders.id"]), ("orders.id", "orders.buyer", "buyers.city"))
+        self.assertEqual(closure(BODY, ["orders.id"], using=["buyers"]), ("orders.id",))
+        self.assertEqual(steps(BODY, ["orders.id"]),
+                         [("orders", ("orders.buyer",)), ("buyers", ("buyers.city",))])
+        self.assertEqual([split(BODY, ["orders.id"]), split(BODY, ["buyers.city"]) is None],
+                         [None, False])
+
+    def test_rows(self):
+        stock = Table("stock", ("shop", "code", "amount"), ("shop", "code"))
+        goods = Table("goods", ("code", "kind"), ("code",))
+        body = Body([stock, goods], [("stock.code", "goods.code")])
+        store = Store([stock, goods], {"stock": [(1, 7, 20), (1, 8, 4), (2, 7, 5)],
+                                       "goods": [(7, 3), (8, 3), (9, 6)]})
+        expected = [((1, 7, 20), (7, 3)), ((1, 8, 4), (8, 3)), ((2, 7, 5), (7, 3))]
+        self.assertEqual(derivations(body, store), expected)
+        self.assertEqual(list(walk(body, store)), expected)
 
 
 if __name__ == "__main__":

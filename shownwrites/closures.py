@@ -1,0 +1,92 @@
+"""Closures: the classes whose values follow from those of some columns."""
+
+from shownwrites.errors import NoTable
+from shownwrites.rows import derivation_with
+from shownwrites.stores import Store
+
+
+def closure(body, columns, *, using=None):
+    """The heads of the closure, in class order; only keys of the tables in `using` count."""
+    known = known_at_first(body, columns)
+    names = body.names if using is None else using
+    for name in names:
+        if name not in body.names:
+            raise NoTable(name)
+    fresh = [head for _, heads in taken_steps(body, known, names) for head in heads]
+    return in_class_order(body, [*known, *fresh])
+
+
+def steps(body, columns):
+    """How the closure is reached: the tables that are taken, and the heads that each adds."""
+    return taken_steps(body, known_at_first(body, columns), body.names)
+
+
+def split(body, columns):
+    """A store with two derivations that agree on the closure alone, or None if that is all."""
+    reached = closure(body, columns)
+    if len(reached) == len(body.classes):
+        return None
+    numbers = {}
+    others = {}
+    for members in body.classes:
+        head = members[0]
+        # Two members differ; taken from one, the number is the same in both derivations.
+        choice = body.region(head).members(1 if head in reached else 2)
+        numbers[head] = choice[0]
+        others[head] = choice[-1]
+    first = derivation_with(body, numbers)
+    second = derivation_with(body, others)
+    return Split(store_of(body, [first, second]), first, second)
+
+
+def known_at_first(body, columns):
+    """The heads of the columns' classes and of the fixed classes."""
+    given = [body.head(column) for column in columns]
+    fixed = [members[0] for members in body.classes if body.fixed(members[0]) is not None]
+    return in_class_order(body, [*given, *fixed])
+
+
+def in_class_order(body, heads):
+    """The heads in class order, each once."""
+    wanted = {head: True for head in heads}
+    return tuple([members[0] for members in body.classes if members[0] in wanted])
+
+
+def taken_steps(body, heads, names):
+    """The steps by the keys of these tables, when these heads are known at first."""
+    known = {head: True for head in heads}
+    left = [name for name in body.names if name in names]
+    taken = []
+    ready = first_keyed(body, left, known)
+    while ready is not None:
+        fresh = [head for head in body.heads_of(ready) if head not in known]
+        taken.append((ready, in_class_order(body, fresh)))
+        known = {**known, **{head: True for head in fresh}}
+        left = [name for name in left if name != ready]
+        ready = first_keyed(body, left, known)
+    return taken
+
+
+def first_keyed(body, names, known):
+    """The first of the tables whose key classes are all known, or None."""
+    for name in names:
+        if all([head in known for head in body.key_heads(name)]):
+            return name
+    return None
+
+
+def store_of(body, found):
+    """A store with the tables of the body and the rows of the derivations."""
+    rows = {}
+    for place, name in enumerate(body.names):
+        rows[name] = sorted(set([derivation[place] for derivation in found]))
+    return Store(body.tables, rows)
+
+
+class Split:
+    """A store with two derivations."""
+
+    def __init__(self, store, first, second):
+        self.store = store
+        self.first = first
+        self.second = second
