@@ -1,6 +1,6 @@
 """Derivations: rows of a body's tables that belong together."""
 
-from shownwrites.errors import NoTable, Unlike
+from shownwrites.errors import NoTable, NotShown, Unlike
 
 
 def derivations(body, store):
@@ -16,7 +16,11 @@ def walk(body, store):
 
 def class_values(body, derivation):
     """The numbers that the classes have in the derivation, in class order."""
-    spots = [body.spot_of(members[0]) for members in body.classes]
+    return numbers_at(derivation, [body.spot_of(members[0]) for members in body.classes])
+
+
+def numbers_at(derivation, spots):
+    """The numbers that stand in the derivation at these spots."""
     return tuple([derivation[place][at] for place, at in spots])
 
 
@@ -28,6 +32,25 @@ def deriving(body, store, name, row):
     place = body.names.index(name)
     lists[place] = [held for held in lists[place] if held == row]
     return list(matched(body, lists))
+
+
+def shown_by(body, store, heads, row):
+    """The derivations, at least one, in which the classes of the heads have the row's numbers."""
+    if len(row) != len(heads):
+        raise NotShown(row)
+    numbers = {head: row[at] for at, head in enumerate(heads)}
+    lists = table_rows(body, store)
+    near = [agreeing_rows(body, name, rows, numbers) for name, rows in zip(body.names, lists)]
+    found = list(matched(body, near))
+    if len(found) == 0:
+        raise NotShown(row)
+    return found
+
+
+def agreeing_rows(body, name, rows, numbers):
+    """The rows of a table that have the numbers of its classes that are given."""
+    spots = [(at, numbers[head]) for at, head in enumerate(body.heads_of(name)) if head in numbers]
+    return [row for row in rows if all([row[at] == number for at, number in spots])]
 
 
 def derivation_with(body, numbers):

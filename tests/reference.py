@@ -4,9 +4,13 @@ import itertools
 import random
 
 from shownwrites.bodies import Body
+from shownwrites.edits import Edit
 from shownwrites.errors import Empty, Narrow, SameTable
 from shownwrites.stores import Store
+from shownwrites.sums import Sums
 from shownwrites.tables import Table
+from shownwrites.views import View
+from shownwrites.writes import Add, Change, Clear, Drop, Total
 
 
 def columns_of(tables):
@@ -62,6 +66,127 @@ def closure_of(body, columns, using=None):
     return tuple(members[0] for members in body.classes if members[0] in known)
 
 
+def shown_by_columns(body, store, columns):
+    """What columns show in the derivations of a store, in ascending order, each row once."""
+    return sorted({tuple(value_at(body, found, column) for column in columns)
+                   for found in derivations_of(body, store)})
+
+
+def sums_of(body, store, by, totals):
+    """The rows of sums by the by columns and the totalled columns."""
+    rows = []
+    for group in shown_by_columns(body, store, by):
+        found = [rows for rows in derivations_of(body, store)
+                 if tuple(value_at(body, rows, column) for column in by) == group]
+        rows.append((group, len(found), tuple(sum(value_at(body, rows, column) for rows in found)
+                                              for column in totals)))
+    return rows
+
+
+def totalled_of(body):
+    """The columns of the body that may be totalled, if they are no by columns."""
+    alone = [members[0] for members in body.classes
+             if len(members) == 1 and body.fixed(members[0]) is None]
+    keys = [f"{table.name}.{column}" for table in body.tables for column in table.key]
+    return [column for column in alone if column not in keys]
+
+
+def shown_rows(shown, store):
+    """The rows of a view or of sums in the store."""
+    if isinstance(shown, View):
+        return shown_by_columns(shown.body, store, shown.heads)
+    return sums_of(shown.body, store, shown.by_heads, shown.total_heads)
+
+
+def refusal_of(shown, store, write):
+    """The name and the arguments of the refusal of point 24, or None."""
+    rows = shown_rows(shown, store)
+    of_view = write.kind in ("drop", "add", "change")
+    row = write.row if of_view else write.group
+    if of_view != isinstance(shown, View):
+        return ("WrongKind", write.kind)
+    if len(row) != len(shown.heads if of_view else shown.by_heads):
+        return ("WrongLength", row)
+    if write.kind != "add" and row not in (rows if of_view else [other[0] for other in rows]):
+        return ("NotShown", row)
+    if write.kind in ("change", "total"):
+        if write.name not in (shown.names if of_view else shown.total_names):
+            return ("NoName", write.name)
+    if of_view and write.kind != "drop":
+        told = ([(write.name, write.value)] if write.kind == "change"
+                else list(zip(shown.names, row)))
+        for name, value in told:
+            if value not in shown.body.region(shown.heads[shown.names.index(name)]):
+                return ("OutOfRegion", name, value)
+    if row in [old for old, new in replacements(shown, rows, write) if old == new]:
+        return ("NoDifference", write.value)
+    for old, new in replacements(shown, rows, write):
+        if of_view and old != new and new in rows:
+            return ("AlreadyShown", new)
+    return None
+
+
+def replacements(shown, rows, write):
+    """Pairs of a row (or its group) and what it becomes; None for no row."""
+    if write.kind == "add":
+        return [(None, write.row)]
+    if write.kind == "change":
+        at = shown.names.index(write.name)
+        return [(write.row, (*write.row[:at], write.value, *write.row[at + 1:]))]
+    if write.kind == "total":
+        at = shown.total_names.index(write.name)
+        return [(group, group if totals[at] == write.value else
+                 (group, count, (*totals[:at], write.value, *totals[at + 1:])))
+                for group, count, totals in rows if group == write.group]
+    return [(write.row if write.kind == "drop" else write.group, None)]
+
+
+def wanted_of(shown, store, write):
+    """The wanted rows of a write that is not refused."""
+    rows = shown_rows(shown, store)
+    for old, new in replacements(shown, rows, write):
+        rows = [row for row in rows if row != old and row[0] != old] + [new]
+    return sorted(row for row in rows if row is not None)
+
+
+def store_after(store, edit):
+    """The store after the edit, or None if it does not fit."""
+    held = {table.name: {table.key_of(row): row for row in store[table.name]} for table in store.tables}
+    for name, key, before, after in edit.changes:
+        if name not in held or held[name].get(key) != before:
+            return None
+        table = store.table_of(name)
+        if after is not None and (len(after) != len(table.columns) or table.key_of(after) != key):
+            return None
+        held[name][key] = after
+    return Store(store.tables, {name: [row for row in held[name].values() if row is not None]
+                                for name in held})
+
+
+def meaning_of(shown, store, write, edit):
+    """True if the edit is a meaning of the write, by the words of point 26."""
+    names = [table.name for table in shown.body.tables]
+    after = store_after(store, edit)
+    if after is None or any(change[0] not in names for change in edit.changes):
+        return False
+    for name, _, before, new in edit.changes:
+        if write.kind in ("drop", "clear") and new is not None:
+            return False
+        if write.kind == "add" and before is not None:
+            return False
+        if write.kind in ("change", "total"):
+            if len(edit.changes) != 1 or before is None or new is None:
+                return False
+            columns = [f"{name}.{column}" for column, a, b in
+                       zip(store.table_of(name).columns, before, new) if a != b]
+            if len(columns) != 1:
+                return False
+            if write.kind == "total" and columns != [
+                    shown.total_heads[shown.total_names.index(write.name)]]:
+                return False
+    return shown_rows(shown, after) == wanted_of(shown, store, write)
+
+
 def some_table(dice, name):
     """A table of one to three columns and some key."""
     columns = dice.sample(["a", "b", "c", "d"], dice.randint(1, 3))
@@ -107,6 +232,119 @@ def some_rows(dice, table, most=5):
 def some_store(dice, tables, most=5):
     """A store with rows in these tables."""
     return Store(tables, {table.name: some_rows(dice, table, most) for table in tables})
+
+
+def some_shown(dice, body):
+    """Pairs for a view of the body: columns of some classes, enough to be keyed."""
+    columns = [dice.choice(members) for members in body.classes]
+    dice.shuffle(columns)
+    most = dice.randint(1, len(columns))
+    while len(closure_of(body, columns[:most])) < len(columns):
+        most += 1
+    return [(f"n{at}", column) for at, column in enumerate(columns[:most])]
+
+
+def some_sums(dice, body):
+    """The by pairs and the total pairs of sums of the body."""
+    columns = [dice.choice(members) for members in body.classes]
+    dice.shuffle(columns)
+    by = columns[:dice.choice([0, 1, 1, 2, len(columns)])]
+    totals = [column for column in totalled_of(body) if column not in by]
+    dice.shuffle(totals)
+    totals = totals[:dice.randint(0, len(totals))]
+    return ([(f"b{at}", column) for at, column in enumerate(by)],
+            [(f"t{at}", column) for at, column in enumerate(totals)])
+
+
+def some_shown_view(dice, most=3):
+    """A view, or sums, mostly with a total."""
+    body = some_body(dice, most)
+    if dice.random() < 0.5:
+        return View(body, some_shown(dice, body))
+    by, totals = some_sums(dice, body)
+    for _ in range(5):
+        if not totals:
+            body = some_body(dice, most)
+            by, totals = some_sums(dice, body)
+    return Sums(body, by, totals)
+
+
+def some_row(dice, rows, width):
+    """One of the rows, or some row, seldom one of another length."""
+    if rows and dice.random() < 0.6:
+        return dice.choice(rows)
+    if dice.random() < 0.1:
+        width += dice.choice([-1, 1])
+    return tuple(dice.randint(-1, 2) for _ in range(width))
+
+
+def some_write(dice, shown, store):
+    """A write, mostly one of a kind and a form that fit."""
+    rows = shown_rows(shown, store)
+    if isinstance(shown, View):
+        row = some_row(dice, rows, len(shown.heads))
+        name = dice.choice([*shown.names, *shown.names, "none"])
+        return dice.choice([Drop(row), Add(row), Change(row, name, dice.randint(-1, 2)),
+                            Change(row, name, dice.randint(-1, 2))])
+    group = some_row(dice, [row[0] for row in rows], len(shown.by_heads))
+    name = dice.choice([*shown.total_names, *shown.total_names, "none"])
+    return dice.choice([Clear(group), Total(group, name, dice.randint(-2, 4))])
+
+
+def some_change(dice, store):
+    """A change of a row of the store, mostly one that fits it."""
+    table = dice.choice(store.tables)
+    rows = store[table.name]
+    before = dice.choice(rows) if rows and dice.random() < 0.8 else None
+    after = tuple(dice.randint(-1, 2) for _ in table.columns)
+    if before is not None:
+        others = [at for at, column in enumerate(table.columns) if column not in table.key]
+        after = list(before)
+        for at in dice.sample(others, min(len(others), dice.choice([1, 1, 1, 2]))):
+            after[at] += dice.choice([-1, 1, 2])
+        after = None if dice.random() < 0.5 or tuple(after) == before else tuple(after)
+    key = table.key_of(before or after)
+    if dice.random() < 0.05:
+        key = (*key[1:], 2)
+    if before is not None and dice.random() < 0.05:
+        before = (*before[1:], 3)
+    return (table.name, key, before, after)
+
+
+def some_edit(dice, store):
+    """An edit of one to three changes."""
+    changes = {}
+    for _ in range(dice.choice([1, 1, 1, 2, 3])):
+        change = some_change(dice, store)
+        if change[2] != change[3]:
+            changes[change[:2]] = change
+    return Edit(list(changes.values()))
+
+
+def write_by(shown, store, edit):
+    """A write that asks for what the edit does to the shown rows, or None."""
+    after = store_after(store, edit)
+    old = shown_rows(shown, store)
+    new = old if after is None else shown_rows(shown, after)
+    gone = [row for row in old if row not in new]
+    come = [row for row in new if row not in old]
+    of_view = isinstance(shown, View)
+    if len(gone) == 1 and not come:
+        return Drop(gone[0]) if of_view else Clear(gone[0][0])
+    if len(come) == 1 and not gone:
+        return Add(come[0]) if of_view else None
+    if len(gone) != 1 or len(come) != 1:
+        return None
+    if not of_view and gone[0][:2] != come[0][:2]:
+        return None
+    pairs = list(zip(gone[0], come[0]) if of_view else zip(gone[0][2], come[0][2]))
+    at = [at for at, (one, two) in enumerate(pairs) if one != two]
+    if len(at) != 1:
+        return None
+    name = (shown.names if of_view else shown.total_names)[at[0]]
+    if of_view:
+        return Change(gone[0], name, pairs[at[0]][1])
+    return Total(gone[0][0], name, pairs[at[0]][1])
 
 
 def dice_of(number):

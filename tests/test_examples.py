@@ -5,14 +5,28 @@ import unittest
 from shownwrites.bodies import Body
 from shownwrites.closures import closure, split, steps
 from shownwrites.edits import Edit
+from shownwrites.refusals import NoDifference
 from shownwrites.regions import Region
 from shownwrites.rows import derivations, walk
 from shownwrites.stores import Store
+from shownwrites.sums import Sums
 from shownwrites.tables import Table
+from shownwrites.views import View
+from shownwrites.writes import Add, Change, Total, is_meaning, wanted
 
 ORDERS = Table("orders", ["id", "buyer"], ["id"])
 BUYERS = Table("buyers", ["id", "city"], ["id"])
 BODY = Body([ORDERS, BUYERS], [("orders.buyer", "buyers.id")], [("buyers.id", ">", 0)])
+
+STOCK = Table("stock", ("shop", "code", "amount"), ("shop", "code"))
+GOODS = Table("goods", ("code", "kind"), ("code",))
+GOODS_BODY = Body([STOCK, GOODS], [("stock.code", "goods.code")])
+STORE = Store([STOCK, GOODS], {"stock": [(1, 7, 20), (1, 8, 4), (2, 7, 5)],
+                               "goods": [(7, 3), (8, 3), (9, 6)]})
+LOTS = View(GOODS_BODY, [("shop", "stock.shop"), ("code", "stock.code"), ("amount", "stock.amount"),
+                         ("kind", "goods.kind")])
+PAIRS = View(GOODS_BODY, [("shop", "stock.shop"), ("code", "stock.code")])
+KINDS = Sums(GOODS_BODY, [("kind", "goods.kind")], [("amount", "stock.amount")])
 
 
 class Examples(unittest.TestCase):
@@ -53,14 +67,26 @@ class Examples(unittest.TestCase):
                          [None, False])
 
     def test_rows(self):
-        stock = Table("stock", ("shop", "code", "amount"), ("shop", "code"))
-        goods = Table("goods", ("code", "kind"), ("code",))
-        body = Body([stock, goods], [("stock.code", "goods.code")])
-        store = Store([stock, goods], {"stock": [(1, 7, 20), (1, 8, 4), (2, 7, 5)],
-                                       "goods": [(7, 3), (8, 3), (9, 6)]})
         expected = [((1, 7, 20), (7, 3)), ((1, 8, 4), (8, 3)), ((2, 7, 5), (7, 3))]
-        self.assertEqual(derivations(body, store), expected)
-        self.assertEqual(list(walk(body, store)), expected)
+        self.assertEqual(derivations(GOODS_BODY, STORE), expected)
+        self.assertEqual(list(walk(GOODS_BODY, STORE)), expected)
+
+    def test_sums(self):
+        self.assertEqual(KINDS(STORE), [((3,), 3, (29,))])
+        self.assertEqual(KINDS.origins(STORE, (3,)), [
+            ((1, 7, 20), (7, 3)), ((1, 8, 4), (8, 3)), ((2, 7, 5), (7, 3))])
+
+    def test_writes(self):
+        self.assertEqual(wanted(LOTS, STORE, Add((2, 8, 1, 3))),
+                         [(1, 7, 20, 3), (1, 8, 4, 3), (2, 7, 5, 3), (2, 8, 1, 3)])
+        self.assertEqual(wanted(KINDS, STORE, Total((3,), "amount", 30)), [((3,), 3, (30,))])
+        with self.assertRaises(NoDifference) as caught:
+            wanted(LOTS, STORE, Change((2, 7, 5, 3), "amount", 5))
+        self.assertEqual(caught.exception.value, 5)
+        self.assertIs(is_meaning(LOTS, STORE, Change((1, 8, 4, 3), "kind", 6),
+                                 Edit([("goods", (8,), (8, 3), (8, 6))])), True)
+        self.assertIs(is_meaning(LOTS, STORE, Change((2, 7, 5, 3), "kind", 6),
+                                 Edit([("goods", (7,), (7, 3), (7, 6))])), False)
 
 
 if __name__ == "__main__":
