@@ -74,6 +74,21 @@ def check_regions(regions):
             raise Narrow(head)
 
 
+def known_names(body, names):
+    """The tables of the body with these names, in its order; raises an error for another name."""
+    for name in names:
+        if name not in body.names:
+            raise NoTable(name)
+    return tuple([name for name in body.names if name in names])
+
+
+def is_key_column(body, column):
+    """True if a known column stands in the key of its table."""
+    place, at = body.spot_of(column)
+    table = body.tables[place]
+    return table.columns[at] in table.key
+
+
 class Body:
     """One to six tables with links between their columns and conditions on them."""
 

@@ -1,6 +1,6 @@
 """Closures: the classes whose values follow from those of some columns."""
 
-from shownwrites.errors import NoTable
+from shownwrites.bodies import known_names
 from shownwrites.rows import derivation_with
 from shownwrites.stores import Store
 
@@ -8,10 +8,7 @@ from shownwrites.stores import Store
 def closure(body, columns, *, using=None):
     """The heads of the closure, in class order; only keys of the tables in `using` count."""
     known = known_at_first(body, columns)
-    names = body.names if using is None else using
-    for name in names:
-        if name not in body.names:
-            raise NoTable(name)
+    names = body.names if using is None else known_names(body, using)
     fresh = [head for _, heads in taken_steps(body, known, names) for head in heads]
     return in_class_order(body, [*known, *fresh])
 
@@ -26,17 +23,22 @@ def split(body, columns):
     reached = closure(body, columns)
     if len(reached) == len(body.classes):
         return None
-    numbers = {}
-    others = {}
-    for members in body.classes:
-        head = members[0]
-        # Two members differ; taken from one, the number is the same in both derivations.
-        choice = body.region(head).members(1 if head in reached else 2)
-        numbers[head] = choice[0]
-        others[head] = choice[-1]
-    first = derivation_with(body, numbers)
-    second = derivation_with(body, others)
+    first, second = derivations_apart(body, [reached])
     return Split(store_of(body, [first, second]), first, second)
+
+
+def derivations_apart(body, agreed):
+    """A derivation, and for each of the sets of heads one that agrees with it just there.
+
+    Each of them has values of its own in all other classes.
+    """
+    numbers = {head: (body.fixed(head),) for head in [members[0] for members in body.classes]}
+    for head in body.open_heads:
+        numbers[head] = body.region(head).members(len(agreed) + 1)
+    first = {head: numbers[head][0] for head in numbers}
+    others = [{head: numbers[head][0 if head in heads else at] for head in numbers}
+              for at, heads in enumerate(agreed, start=1)]
+    return [derivation_with(body, given) for given in [first, *others]]
 
 
 def known_at_first(body, columns):

@@ -39,6 +39,15 @@ def meet(regions):
     return Region(max(lows, default=None), min(highs, default=None), without)
 
 
+def conditions_of(region):
+    """The signs and numbers of conditions that together allow just the region's members."""
+    if region.size == 1:
+        return [("=", region.value)]
+    low = [] if region.low is None else [(">=", region.low)]
+    high = [] if region.high is None else [("<=", region.high)]
+    return [*low, *high, *[("!=", number) for number in region.without]]
+
+
 def end_text(end):
     """The text of an end: nothing if it is missing."""
     return "" if end is None else str(end)

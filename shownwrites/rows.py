@@ -26,25 +26,46 @@ def numbers_at(derivation, spots):
 
 def deriving(body, store, name, row):
     """The derivations in which the table has this row, in the order of their keys."""
+    lists = lists_with(body, store, name, row)
+    return list(matched(body, lists))
+
+
+def stands_once(body, store, name, row):
+    """True if the table has this row in just one derivation."""
+    lists = lists_with(body, store, name, row)
+    count = 0
+    # Counted one by one, because a row may stand in very many derivations.
+    for _ in matched(body, lists):
+        count = count + 1
+        if count > 1:
+            return False
+    return count == 1
+
+
+def lists_with(body, store, name, row):
+    """The rows of each table of the body, but of this one the given row alone, if it has it."""
     if name not in body.names:
         raise NoTable(name)
     lists = table_rows(body, store)
     place = body.names.index(name)
-    lists[place] = [held for held in lists[place] if held == row]
-    return list(matched(body, lists))
+    return [*lists[:place], [held for held in lists[place] if held == row], *lists[place + 1:]]
 
 
 def shown_by(body, store, heads, row):
     """The derivations, at least one, in which the classes of the heads have the row's numbers."""
     if len(row) != len(heads):
         raise NotShown(row)
-    numbers = {head: row[at] for at, head in enumerate(heads)}
-    lists = table_rows(body, store)
-    near = [agreeing_rows(body, name, rows, numbers) for name, rows in zip(body.names, lists)]
-    found = list(matched(body, near))
+    lists = agreeing_lists(body, store, {head: row[at] for at, head in enumerate(heads)})
+    found = list(matched(body, lists))
     if len(found) == 0:
         raise NotShown(row)
     return found
+
+
+def agreeing_lists(body, store, numbers):
+    """The rows of each table of the body that have the numbers of their classes that are given."""
+    lists = table_rows(body, store)
+    return [agreeing_rows(body, name, rows, numbers) for name, rows in zip(body.names, lists)]
 
 
 def agreeing_rows(body, name, rows, numbers):
@@ -104,6 +125,14 @@ def grouped(pairs):
     for start, end in zip(starts, [*starts[1:], len(ordered)]):
         groups[ordered[start][0]] = [second for _, second in ordered[start:end]]
     return groups
+
+
+def counted(values):
+    """How often each of the values occurs."""
+    counts = {}
+    for value in values:
+        counts[value] = counts.get(value, 0) + 1
+    return counts
 
 
 def linked_parts(links):

@@ -1,5 +1,6 @@
 """Sums: the derivations of a body by groups, with their numbers and totals."""
 
+from shownwrites.bodies import is_key_column
 from shownwrites.refusals import InvalidSums, NotTotal
 from shownwrites.rows import derivations, grouped, numbers_at, shown_by
 from shownwrites.tables import is_name
@@ -32,18 +33,16 @@ def named_totals(body, by_heads, totals):
         check_name(name, [*by_heads, *heads])
         head = body.head(column)
         barred = [*list(by_heads.values()), *list(heads.values())]
-        if head in barred or not is_alone(body, column):
+        if head in barred or not may_be_totalled(body, column):
             raise NotTotal(column)
         heads[name] = head
     return heads
 
 
-def is_alone(body, column):
+def may_be_totalled(body, column):
     """True if the column stands in no key, and is the only one of a class that is open."""
-    place, at = body.spot_of(column)
-    table = body.tables[place]
-    open_class = (column,) in body.classes and body.fixed(column) is None
-    return open_class and table.columns[at] not in table.key
+    alone = (column,) in body.classes and not is_key_column(body, column)
+    return alone and body.fixed(column) is None
 
 
 class Sums:
@@ -65,13 +64,23 @@ class Sums:
 
     def rows(self, store):
         """The groups in ascending order, each with its number of derivations and its totals."""
-        groups = grouped([(numbers_at(found, self._by_spots), numbers_at(found, self._total_spots))
+        groups = grouped([(self.group_of(found), numbers_at(found, self._total_spots))
                           for found in derivations(self.body, store)])
         return [(group, len(groups[group]), self._totals(groups[group])) for group in groups]
+
+    def group_of(self, derivation):
+        """The group of the derivation."""
+        return numbers_at(derivation, self._by_spots)
 
     def origins(self, store, group):
         """The derivations of the group, in the order of their keys."""
         return shown_by(self.body, store, self.by_heads, group)
+
+    def divided(self, store, group):
+        """The derivations of the group, and all others."""
+        found = derivations(self.body, store)
+        inside = [rows for rows in found if self.group_of(rows) == group]
+        return (inside, [rows for rows in found if self.group_of(rows) != group])
 
     def _totals(self, listed):
         """The sums of the numbers at each place of the listed tuples."""

@@ -34,21 +34,29 @@ def classes_of(tables, links):
     return tuple(classes)
 
 
-def value_at(body, derivation, column):
-    """The number that a column has in a derivation."""
+def spot_of(body, column):
+    """The place of a column's table in the body, and the column's place in the table."""
     name, _, part = column.partition(".")
     place = [table.name for table in body.tables].index(name)
-    return derivation[place][body.tables[place].columns.index(part)]
+    return (place, body.tables[place].columns.index(part))
+
+
+def value_at(body, derivation, column):
+    """The number that a column has in a derivation."""
+    place, at = spot_of(body, column)
+    return derivation[place][at]
 
 
 def derivations_of(body, store):
     """All combinations of rows whose linked columns agree and whose values are allowed."""
+    spots = [([spot_of(body, column) for column in members], body.region(members[0]))
+             for members in body.classes]
     found = []
     for rows in itertools.product(*[store[table.name] for table in body.tables]):
         good = True
-        for members in body.classes:
-            values = {value_at(body, rows, column) for column in members}
-            good = good and len(values) == 1 and values.pop() in body.region(members[0])
+        for members, region in spots:
+            values = {rows[place][at] for place, at in members}
+            good = good and len(values) == 1 and values.pop() in region
         if good:
             found.append(rows)
     return sorted(found, key=lambda rows: [t.key_of(row) for t, row in zip(body.tables, rows)])
@@ -163,8 +171,11 @@ def store_after(store, edit):
                                 for name in held})
 
 
-def meaning_of(shown, store, write, edit):
-    """True if the edit is a meaning of the write, by the words of point 26."""
+def meaning_of(shown, store, write, edit, rows=None):
+    """True if the edit is a meaning of the write, by the words of point 26.
+
+    The wanted rows may be given, so that they need not be found again.
+    """
     names = [table.name for table in shown.body.tables]
     after = store_after(store, edit)
     if after is None or any(change[0] not in names for change in edit.changes):
@@ -184,7 +195,120 @@ def meaning_of(shown, store, write, edit):
             if write.kind == "total" and columns != [
                     shown.total_heads[shown.total_names.index(write.name)]]:
                 return False
-    return shown_rows(shown, after) == wanted_of(shown, store, write)
+    return shown_rows(shown, after) == (wanted_of(shown, store, write) if rows is None else rows)
+
+
+def least_deletions(shown, store, write, names):
+    """The least meanings among all edits that delete rows of these tables."""
+    changes = [(name, store.table_of(name).key_of(row), row, None)
+               for name in sorted(set(names)) for row in store[name]]
+    rows = wanted_of(shown, store, write)
+    for size in range(len(changes) + 1):
+        edits = [Edit(some) for some in itertools.combinations(changes, size)]
+        found = [edit for edit in edits if meaning_of(shown, store, write, edit, rows)]
+        if found:
+            return sorted(found, key=lambda edit: edit.changes)
+    return []
+
+
+def numbers_standing(body, store, head):
+    """The numbers in the columns of a class in all rows of the body's tables."""
+    members = [members for members in body.classes if members[0] == head][0]
+    return {row[body.tables[at].columns.index(column.partition(".")[2])]
+            for column in members for at, table in enumerate(body.tables)
+            if table.name == column.partition(".")[0] for row in store[table.name]}
+
+
+def least_insertions(view, store, row, names):
+    """The number of rows, the told and the other edits of the least meanings of an Add.
+
+    All numbers that stand in the hidden classes are tried, and one more for each class.
+    """
+    body = view.body
+    hidden = [head for head in body.open_heads if head not in view.heads]
+    standing = {head: numbers_standing(body, store, head) for head in hidden}
+    more = {head: body.region(head).members(1, apart=list(standing[head])) for head in hidden}
+    known = {members[0]: body.fixed(members[0]) for members in body.classes}
+    known.update(zip(view.heads, row))
+    rows = wanted_of(view, store, Add(row))
+    found = []
+    for numbers in itertools.product(*[sorted(standing[head]) + more[head] for head in hidden]):
+        values = {**known, **dict(zip(hidden, numbers))}
+        changes = []
+        for table in body.tables:
+            new = tuple(values[body.head(f"{table.name}.{column}")] for column in table.columns)
+            if new not in store[table.name]:
+                changes.append((table.name, table.key_of(new), None, new))
+        edit = Edit(changes)
+        permitted = all(change[0] in names for change in changes)
+        if permitted and meaning_of(view, store, Add(row), edit, rows):
+            told = all(number in standing[head] for head, number in zip(hidden, numbers))
+            found.append((edit, told))
+    if not found:
+        return (None, [], [])
+    least = min(len(edit) for edit, _ in found)
+    found = sorted([(edit.changes, told) for edit, told in found if len(edit) == least])
+    return (least, [Edit(changes) for changes, told in found if told],
+            [Edit(changes) for changes, told in found if not told])
+
+
+def cell_edits(shown, store, write, cells, numbers):
+    """The meanings among the edits that set one of the cells to one of the numbers in some row."""
+    rows = wanted_of(shown, store, write)
+    found = []
+    for cell in sorted(set(cells)):
+        name, _, column = cell.partition(".")
+        table = store.table_of(name)
+        at = table.columns.index(column)
+        for row in store[name]:
+            for number in numbers:
+                after = (*row[:at], number, *row[at + 1:])
+                if after != row:
+                    edit = Edit([(name, table.key_of(row), row, after)])
+                    if meaning_of(shown, store, write, edit, rows):
+                        found.append(edit)
+    return sorted(found, key=lambda edit: edit.changes)
+
+
+def name_sets(body):
+    """All sets of tables of the body, ordered by their sizes and then by the places of the tables."""
+    names = [table.name for table in body.tables]
+    return [some for size in range(len(names) + 1) for some in itertools.combinations(names, size)]
+
+
+def is_exchangeable(body, columns, names):
+    """True if point 35 calls the set of tables exchangeable."""
+    outside = [table for table in body.tables if table.name not in names]
+    reached = closure_of(body, columns_of(outside))
+    for name in names:
+        if set(body.key_heads(name)) <= set(reached):
+            return False
+    near = {names[0]}
+    for _ in names:
+        for members in body.classes:
+            owners = {column.partition(".")[0] for column in members} & set(names)
+            if members[0] not in reached and owners & near:
+                near |= owners
+    return near == set(names) and any(body.head(column) not in reached for column in columns)
+
+
+def sets_inside(body, columns):
+    """The sets of tables that are intersections of exchangeable sets."""
+    family = [set(names) for names in name_sets(body) if names and is_exchangeable(body, columns, names)]
+    everything = {table.name for table in body.tables}
+    # A set is an intersection exactly if it is that of all sets of the family that contain it.
+    return [names for names in name_sets(body)
+            if everything.intersection(*[other for other in family if other >= set(names)]) == set(names)]
+
+
+def tables_inside(body, store, columns, derivation):
+    """The tables that are inside for the group of the derivation, found row by row."""
+    found = derivations_of(body, store)
+    group = [value_at(body, derivation, column) for column in columns]
+    inside = [rows for rows in found if [value_at(body, rows, column) for column in columns] == group]
+    outside = [rows for rows in found if rows not in inside]
+    return tuple(table.name for at, table in enumerate(body.tables)
+                 if not {rows[at] for rows in inside} & {rows[at] for rows in outside})
 
 
 def some_table(dice, name):
@@ -218,20 +342,65 @@ def some_body(dice, most=4):
     return Body(tables, links, conditions)
 
 
-def some_rows(dice, table, most=5):
+def some_rows(dice, table, most=5, least=-1):
     """Rows with different keys, in any order."""
     rows = {}
     for _ in range(dice.randint(0, most)):
-        row = tuple(dice.randint(-1, 2) for _ in table.columns)
+        row = tuple(dice.randint(least, 2) for _ in table.columns)
         rows[table.key_of(row)] = row
     rows = list(rows.values())
     dice.shuffle(rows)
     return rows
 
 
-def some_store(dice, tables, most=5):
+def some_store(dice, tables, most=5, least=-1):
     """A store with rows in these tables."""
-    return Store(tables, {table.name: some_rows(dice, table, most) for table in tables})
+    return Store(tables, {table.name: some_rows(dice, table, most, least) for table in tables})
+
+
+def plain_tables(names):
+    """Tables with a key and two further columns."""
+    return [Table(name, ["k", "x", "y"], ["k"]) for name in names]
+
+
+def linked_views():
+    """Views with hidden classes, in which several edits often do the same."""
+    ab, abc = plain_tables("ab"), plain_tables("abc")
+    z = [Table("a", ["k", "z"], ["k"]), Table("b", ["z", "x"], ["z"]), Table("d", ["x", "z"], ["x"])]
+    wide = [Table("p", ["x", "y"], ["x", "y"]), Table("q", ["y", "v"], ["y"])]
+    return [
+        View(Body(ab, [("a.x", "b.k")]), [("k", "a.k"), ("v", "b.x")]),
+        View(Body(ab, [("a.x", "b.k")], [("b.y", "!=", 1)]), [("v", "b.x"), ("k", "a.k"), ("y", "a.y")]),
+        View(Body(ab, [("a.x", "b.x")]), [("k", "a.k"), ("l", "b.k")]),
+        View(Body(ab, [("a.x", "b.x"), ("a.y", "b.y")], [("a.x", ">=", 0)]), [("k", "a.k"), ("l", "b.k")]),
+        View(Body(ab), [("k", "a.k"), ("l", "b.k"), ("x", "b.x")]),
+        View(Body(abc, [("a.x", "b.k"), ("b.x", "c.k")]), [("k", "a.k"), ("v", "c.x")]),
+        View(Body(abc, [("a.x", "b.x"), ("b.y", "c.k")]), [("k", "a.k"), ("l", "b.k"), ("v", "c.x")]),
+        View(Body(abc, [("a.x", "b.k"), ("b.k", "c.x")]), [("k", "a.k"), ("m", "c.k"), ("v", "b.x")]),
+        View(Body(abc, [("a.x", "b.k"), ("a.y", "c.k"), ("b.x", "c.x")], [("b.y", "=", 1)]),
+             [("k", "a.k"), ("v", "c.y")]),
+        View(Body(z, [("a.z", "b.z"), ("b.z", "d.z"), ("b.x", "d.x")]), [("k", "a.k"), ("x", "b.x")]),
+        View(Body(wide, [("p.y", "q.y")], [("q.v", ">", 0)]), [("x", "p.x"), ("y", "q.y")]),
+        View(Body(wide, [("p.y", "q.v")]), [("x", "p.x"), ("w", "q.y")]),
+        View(Body(ab[::-1], [("a.x", "b.k")]), [("k", "a.k"), ("v", "b.x")]),
+        View(Body(ab[::-1], [("a.x", "b.x")], [("a.y", "<", 2)]), [("l", "b.k"), ("k", "a.k")]),
+    ]
+
+
+def linked_sums():
+    """Sums with totals, in whose groups derivations often share rows."""
+    ab, abc = plain_tables("ab"), plain_tables("abc")
+    return [
+        Sums(Body(ab, [("a.x", "b.k")]), [("v", "b.x")], [("y", "a.y"), ("z", "b.y")]),
+        Sums(Body(ab, [("a.x", "b.k")], [("a.y", ">=", 0)]), [], [("y", "a.y"), ("z", "b.y")]),
+        Sums(Body(ab, [("a.x", "b.x")]), [("x", "a.x")], [("y", "a.y"), ("z", "b.y")]),
+        Sums(Body(ab, [("a.x", "b.x")], [("b.y", "<=", 1)]), [("k", "a.k")], [("y", "a.y"), ("z", "b.y")]),
+        Sums(Body(ab, [], [("b.y", "!=", 2)]), [], [("z", "b.y"), ("x", "a.x")]),
+        Sums(Body(ab), [("x", "a.x")], [("z", "b.y"), ("y", "a.y")]),
+        Sums(Body(abc, [("a.x", "b.k"), ("b.x", "c.k")]), [("v", "c.x")], [("y", "a.y"), ("z", "c.y")]),
+        Sums(Body(abc, [("a.x", "b.x"), ("b.x", "c.x")]), [], [("y", "a.y")]),
+        Sums(Body(abc, [("a.x", "b.k"), ("a.y", "c.k")]), [("v", "b.x")], [("w", "c.x"), ("z", "b.y")]),
+    ]
 
 
 def some_shown(dice, body):

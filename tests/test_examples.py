@@ -2,9 +2,14 @@
 
 import unittest
 
+from shownwrites.adding import adds
 from shownwrites.bodies import Body
+from shownwrites.changing import changes, totals
 from shownwrites.closures import closure, split, steps
+from shownwrites.dropping import drops
 from shownwrites.edits import Edit
+from shownwrites.errors import NotPossible
+from shownwrites.exchange import exchangeable, inside_case, inside_sets
 from shownwrites.refusals import NoDifference
 from shownwrites.regions import Region
 from shownwrites.rows import derivations, walk
@@ -87,6 +92,42 @@ class Examples(unittest.TestCase):
                                  Edit([("goods", (8,), (8, 3), (8, 6))])), True)
         self.assertIs(is_meaning(LOTS, STORE, Change((2, 7, 5, 3), "kind", 6),
                                  Edit([("goods", (7,), (7, 3), (7, 6))])), False)
+
+    def test_dropping(self):
+        people = Table("people", ["id", "city"], ["id"])
+        orders = Table("orders", ["id", "person"], ["id"])
+        store = Store([people, orders], {"people": [(1, 10), (2, 20)], "orders": [(5, 1), (6, 1), (7, 2)]})
+        body = Body([orders, people], [("orders.person", "people.id")])
+        view = View(body, [("order", "orders.id"), ("city", "people.city")])
+        self.assertEqual(view(store), [(5, 10), (6, 10), (7, 20)])
+        self.assertEqual([edit.changes for edit in drops(view, store, (5, 10), ["people", "orders"])],
+                         [(("orders", (5,), (5, 1), None),)])
+        self.assertEqual([edit.changes for edit in drops(view, store, (7, 20), ["people", "orders"])],
+                         [(("orders", (7,), (7, 2), None),), (("people", (2,), (2, 20), None),)])
+
+    def test_adding(self):
+        adding = adds(LOTS, STORE, (2, 9, 1, 6), ["stock"])
+        self.assertEqual([adding.count, [edit.changes for edit in adding.told], adding.endless],
+                         [1, [(("stock", (2, 9), None, (2, 9, 1)),)], False])
+        adding = adds(PAIRS, STORE, (2, 8), ["stock", "goods"])
+        self.assertEqual([adding.count, [edit[("stock", (2, 8))] for edit in adding.told], adding.endless],
+                         [1, [(None, (2, 8, 4)), (None, (2, 8, 5)), (None, (2, 8, 20))], True])
+        self.assertIs(adds(LOTS, STORE, (2, 9, 1, 3), ["stock", "goods"]).count is None, True)
+
+    def test_changing(self):
+        found = changes(LOTS, STORE, (1, 8, 4, 3), "kind", 6, ["goods.kind"])
+        self.assertEqual([edit.changes for edit in found], [(("goods", (8,), (8, 3), (8, 6)),)])
+        self.assertEqual(changes(LOTS, STORE, (2, 7, 5, 3), "kind", 6, ["goods.kind", "stock.amount"]), [])
+        self.assertEqual([edit[("stock", (2, 7))] for edit in totals(KINDS, STORE, (3,), "amount", 30)
+                          if ("stock", (2, 7)) in edit], [((2, 7, 5), (2, 7, 6))])
+
+    def test_exchange(self):
+        columns = ["orders.id", "buyers.city"]
+        self.assertEqual(exchangeable(BODY, columns), [("orders",), ("orders", "buyers")])
+        self.assertEqual(inside_sets(BODY, columns), [("orders",), ("orders", "buyers")])
+        with self.assertRaises(NotPossible) as caught:
+            inside_case(BODY, ["orders.id"], ["buyers"])
+        self.assertEqual(caught.exception.names, ("buyers",))
 
 
 if __name__ == "__main__":

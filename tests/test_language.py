@@ -235,6 +235,8 @@ class Expressions(unittest.TestCase):
         for name, node in nodes(ast.Call):
             if called(node) in makers:
                 self.assertIn(node, good, (name, node.lineno))
+                for argument in node.args:
+                    self.assertIsInstance(argument, (ast.Name, ast.Attribute, ast.Constant, ast.Tuple))
 
     def test_is_only_with_none(self):
         for name, node in nodes(ast.Compare):
