@@ -3,21 +3,26 @@
 from shownwrites.bodies import is_key_column
 from shownwrites.edits import Edit
 from shownwrites.errors import KeyCell
-from shownwrites.rows import agreeing_lists, counted, grouped, matched
+from shownwrites.rows import agreeing_lists, counted, grouped, matched, with_number
 from shownwrites.writes import Change, Total, changed_row, wanted
 
 
 def changes(view, store, row, name, value, cells):
     """The meanings of the Change that edit one of these cells, in ascending order."""
-    for column in cells:
-        view.body.head(column)
-        if is_key_column(view.body, column):
-            raise KeyCell(column)
+    check_cells(view.body, cells)
     write = Change(row, name, value)
     wanted(view, store, write)
     found = [change for column in sorted(set(cells))
              for change in changes_of_cell(view, store, write, column)]
     return [Edit([change]) for change in sorted(found)]
+
+
+def check_cells(body, cells):
+    """Raise an error for the first cell that is no column of the body or a key column."""
+    for column in cells:
+        body.head(column)
+        if is_key_column(body, column):
+            raise KeyCell(column)
 
 
 def changes_of_cell(view, store, write, column):
@@ -27,7 +32,7 @@ def changes_of_cell(view, store, write, column):
     old = view.origin(store, write.row)[place]
     target = changed_row(view, write)
     shown = agreeing_lists(body, store, dict(zip(view.heads, target)))
-    tried = [(*old[:at], number, *old[at + 1:]) for number in new_numbers(view, store, write, column)]
+    tried = [with_number(old, at, number) for number in new_numbers(view, store, write, column)]
     likely = list(shown_through(view, shown, place, tried))
     kept = dict(zip(body.heads_of(body.names[place]), old))
     del kept[body.head(column)]
@@ -40,7 +45,7 @@ def changes_of_cell(view, store, write, column):
 def new_numbers(view, store, write, column):
     """The numbers that could be set in the column, which is no key column, to do the Change."""
     head = view.body.head(column)
-    if head == view.heads[view.names.index(write.name)]:
+    if head == view.head_of(write.name):
         return [write.value]
     # The row that is wanted has the old value of each other shown class.
     if head in view.heads:
@@ -68,14 +73,14 @@ def totals(sums, store, group, name, value):
     """The meanings of the Total, in ascending order."""
     write = Total(group, name, value)
     wanted(sums, store, write)
-    column = sums.total_heads[sums.total_names.index(name)]
+    column = sums.total_heads[sums.total_at(name)]
     place, at = sums.body.spot_of(column)
     inside, outside = sums.divided(store, write.group)
     rows = [found[place] for found in inside]
     kept = {found[place]: True for found in outside}
     counts = counted([row for row in rows if row not in kept])
     difference = value - sum([row[at] for row in rows])
-    changed = [(row, (*row[:at], row[at] + difference // counts[row], *row[at + 1:]))
+    changed = [(row, with_number(row, at, row[at] + difference // counts[row]))
                for row in counts if difference % counts[row] == 0]
     region = sums.body.region(column)
     table = sums.body.tables[place]

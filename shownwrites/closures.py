@@ -79,9 +79,14 @@ def first_keyed(body, names, known):
 
 def store_of(body, found):
     """A store with the tables of the body and the rows of the derivations."""
+    return store_without(body, [(derivation, ()) for derivation in found])
+
+
+def store_without(body, pairs):
+    """A store with the rows of the derivations, each without those of the tables named beside it."""
     rows = {}
     for place, name in enumerate(body.names):
-        rows[name] = sorted(set([derivation[place] for derivation in found]))
+        rows[name] = sorted(set([derivation[place] for derivation, absent in pairs if name not in absent]))
     return Store(body.tables, rows)
 
 

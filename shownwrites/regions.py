@@ -39,6 +39,17 @@ def meet(regions):
     return Region(max(lows, default=None), min(highs, default=None), without)
 
 
+def member_outside(first, second):
+    """A member of the first region that is none of the second one, or None."""
+    below = [] if second.low is None else [Region(None, second.low - 1)]
+    above = [] if second.high is None else [Region(second.high + 1, None)]
+    for part in [*below, *above, *[Region(number, number) for number in second.without]]:
+        left = meet([first, part])
+        if left.size != 0:
+            return left.members(1)[0]
+    return None
+
+
 def conditions_of(region):
     """The signs and numbers of conditions that together allow just the region's members."""
     if region.size == 1:

@@ -74,6 +74,11 @@ def agreeing_rows(body, name, rows, numbers):
     return [row for row in rows if all([row[at] == number for at, number in spots])]
 
 
+def with_number(numbers, at, number):
+    """The numbers with another one at this place."""
+    return (*numbers[:at], number, *numbers[at + 1:])
+
+
 def derivation_with(body, numbers):
     """The derivation in which the classes have these numbers, which are given by the heads."""
     return tuple([tuple([numbers[head] for head in body.heads_of(name)]) for name in body.names])

@@ -1,7 +1,7 @@
 """Sums: the derivations of a body by groups, with their numbers and totals."""
 
 from shownwrites.bodies import is_key_column
-from shownwrites.refusals import InvalidSums, NotTotal
+from shownwrites.refusals import InvalidSums, NoName, NotTotal
 from shownwrites.rows import derivations, grouped, numbers_at, shown_by
 from shownwrites.tables import is_name
 
@@ -67,6 +67,12 @@ class Sums:
         groups = grouped([(self.group_of(found), numbers_at(found, self._total_spots))
                           for found in derivations(self.body, store)])
         return [(group, len(groups[group]), self._totals(groups[group])) for group in groups]
+
+    def total_at(self, name):
+        """The place of the total of this name among the totals."""
+        if name not in self.total_names:
+            raise NoName(name)
+        return self.total_names.index(name)
 
     def group_of(self, derivation):
         """The group of the derivation."""

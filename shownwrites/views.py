@@ -2,6 +2,7 @@
 
 from shownwrites.closures import split
 from shownwrites.errors import BadName, DuplicateName, NotKeyed, NothingShown, ShownTwice
+from shownwrites.refusals import NoName
 from shownwrites.rows import derivations, numbers_at, shown_by
 from shownwrites.tables import is_name
 
@@ -42,6 +43,12 @@ class View:
     def rows(self, store):
         """The rows in the store, in ascending order."""
         return sorted([self.shown_of(found) for found in derivations(self.body, store)])
+
+    def head_of(self, name):
+        """The head of the class that is shown under the name."""
+        if name not in self.names:
+            raise NoName(name)
+        return self.heads[self.names.index(name)]
 
     def shown_of(self, derivation):
         """The row that the derivation shows."""

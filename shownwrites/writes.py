@@ -1,7 +1,8 @@
 """Writes to views and sums: what they want to be shown, and which edits do it."""
 
 from shownwrites.errors import InvalidRow, Misfit, NoTable, NotShown
-from shownwrites.refusals import AlreadyShown, NoDifference, NoName, OutOfRegion, WrongKind, WrongLength
+from shownwrites.refusals import AlreadyShown, NoDifference, OutOfRegion, WrongKind, WrongLength
+from shownwrites.rows import with_number
 from shownwrites.views import View
 
 VIEW_KINDS = ("drop", "add", "change")
@@ -48,19 +49,16 @@ def with_row(rows, row):
 
 def changed_row(view, write):
     """The row that results from a Change."""
-    if write.name not in view.names:
-        raise NoName(write.name)
-    at = view.names.index(write.name)
-    if write.value not in view.body.region(view.heads[at]):
+    if write.value not in view.body.region(view.head_of(write.name)):
         raise OutOfRegion(write.name, write.value)
-    return replaced(write.row, at, write.value)
+    return replaced(write.row, view.names.index(write.name), write.value)
 
 
 def replaced(numbers, at, value):
     """The numbers with another one at this place."""
     if numbers[at] == value:
         raise NoDifference(value)
-    return (*numbers[:at], value, *numbers[at + 1:])
+    return with_number(numbers, at, value)
 
 
 def wanted_in_sums(sums, store, write):
@@ -79,10 +77,8 @@ def wanted_in_sums(sums, store, write):
 
 def retotalled(sums, row, write):
     """The row of sums that results from a Total."""
-    if write.name not in sums.total_names:
-        raise NoName(write.name)
     group, count, totals = row
-    return (group, count, replaced(totals, sums.total_names.index(write.name), write.value))
+    return (group, count, replaced(totals, sums.total_at(write.name), write.value))
 
 
 def is_meaning(shown, store, write, edit):
@@ -112,7 +108,7 @@ def is_one_cell(shown, write, change):
     changed = [head for head, old, new in zip(heads, before, after) if old != new]
     if write.kind == "change":
         return len(changed) == 1
-    return changed == [shown.total_heads[shown.total_names.index(write.name)]]
+    return changed == [shown.total_heads[shown.total_at(write.name)]]
 
 
 def store_after(store, edit):

@@ -438,6 +438,28 @@ def some_shown_view(dice, most=3):
     return Sums(body, by, totals)
 
 
+def sparse_view(dice):
+    """A view of two to four tables with many links that shows little more than it needs."""
+    names = dice.sample("abcd", dice.choice([2, 3, 3, 4]))
+    tables = [Table(name, ["k", *dice.choice(["x", "xy"])], ["k"]) for name in names]
+    columns = columns_of(tables)
+    links = []
+    for _ in range(dice.randint(1, 5)):
+        link = (dice.choice(columns), dice.choice(columns))
+        try:
+            Body(tables, [*links, link])
+            links.append(link)
+        except SameTable:
+            pass
+    body = Body(tables, links)
+    shown = dice.sample(body.open_heads, len(body.open_heads))
+    for head in list(shown):
+        rest = [other for other in shown if other != head]
+        if rest and len(closure_of(body, rest)) == len(body.classes) and dice.random() < 0.9:
+            shown = rest
+    return View(body, [(f"n{at}", head) for at, head in enumerate(shown)])
+
+
 def some_row(dice, rows, width):
     """One of the rows, or some row, seldom one of another length."""
     if rows and dice.random() < 0.6:

@@ -4,18 +4,21 @@ import unittest
 
 from shownwrites.adding import adds
 from shownwrites.bodies import Body
+from shownwrites.changeverdicts import change_verdict
 from shownwrites.changing import changes, totals
 from shownwrites.closures import closure, split, steps
 from shownwrites.dropping import drops
 from shownwrites.edits import Edit
 from shownwrites.errors import NotPossible
 from shownwrites.exchange import exchangeable, inside_case, inside_sets
-from shownwrites.refusals import NoDifference
+from shownwrites.refusals import InvalidRule, NoDifference
 from shownwrites.regions import Region
 from shownwrites.rows import derivations, walk
+from shownwrites.rules import Rules
 from shownwrites.stores import Store
 from shownwrites.sums import Sums
 from shownwrites.tables import Table
+from shownwrites.verdicts import add_verdict, drop_verdict
 from shownwrites.views import View
 from shownwrites.writes import Add, Change, Total, is_meaning, wanted
 
@@ -32,6 +35,8 @@ LOTS = View(GOODS_BODY, [("shop", "stock.shop"), ("code", "stock.code"), ("amoun
                          ("kind", "goods.kind")])
 PAIRS = View(GOODS_BODY, [("shop", "stock.shop"), ("code", "stock.code")])
 KINDS = Sums(GOODS_BODY, [("kind", "goods.kind")], [("amount", "stock.amount")])
+
+CITIES = View(Body([ORDERS, BUYERS], [("orders.buyer", "buyers.id")]), [("id", "orders.id"), ("city", "buyers.city")])
 
 
 class Examples(unittest.TestCase):
@@ -128,6 +133,29 @@ class Examples(unittest.TestCase):
         with self.assertRaises(NotPossible) as caught:
             inside_case(BODY, ["orders.id"], ["buyers"])
         self.assertEqual(caught.exception.names, ("buyers",))
+
+    def test_verdicts(self):
+        self.assertEqual([drop_verdict(CITIES, ["orders"]).always_one, drop_verdict(CITIES, ["buyers"]).always_one],
+                         [True, False])
+        verdict = drop_verdict(CITIES, ["buyers", "orders"])
+        self.assertEqual([verdict.none is None, len(verdict.some.meanings), len(verdict.several.meanings)],
+                         [True, 1, 2])
+        verdict = add_verdict(CITIES, ["orders"])
+        self.assertEqual([verdict.none is None, verdict.some is None, verdict.several is None],
+                         [False, False, False])
+
+    def test_changeverdicts(self):
+        verdict = change_verdict(CITIES, "city", ["buyers.city"])
+        self.assertEqual([verdict.none is None, verdict.some is None, verdict.several is None],
+                         [False, False, True])
+        verdict = change_verdict(CITIES, "city", ["buyers.city", "orders.buyer"])
+        self.assertEqual([edit.sets for edit in verdict.several.meanings], [1, 1])
+
+    def test_rules(self):
+        self.assertEqual(Rules(PAIRS, add=["stock"], defaults=[("stock.amount", 0)]).asked, ("stock.amount",))
+        with self.assertRaises(InvalidRule) as caught:
+            Rules(PAIRS, add=["stock"])
+        self.assertEqual(caught.exception.part, "defaults")
 
 
 if __name__ == "__main__":
