@@ -1,6 +1,6 @@
 """Adding a row: the least sets of rows to insert."""
 
-from shownwrites.bodies import known_names, table_of
+from shownwrites.bodies import fixed_numbers, known_names, table_of
 from shownwrites.edits import Edit
 from shownwrites.parts import linked_names, part_body, subsets
 from shownwrites.rows import agreeing_rows, counted, matched, numbers_at, table_rows
@@ -65,7 +65,7 @@ class Search:
         self._body = body
         self._store = store
         self._lists = dict(zip(body.names, table_rows(body, store)))
-        self._known = {head: body.fixed(head) for head in heads if body.fixed(head) is not None}
+        self._known = fixed_numbers(body)
         self._known.update(dict(zip(view.heads, row)))
         hidden = [head for head in heads if head not in self._known]
         standing = {head: standing_numbers(body, self._lists, head) for head in hidden}

@@ -82,6 +82,12 @@ def known_names(body, names):
     return tuple([name for name in body.names if name in names])
 
 
+def fixed_numbers(body):
+    """The numbers of the fixed classes by their heads."""
+    heads = [members[0] for members in body.classes]
+    return {head: body.fixed(head) for head in heads if body.fixed(head) is not None}
+
+
 def is_key_column(body, column):
     """True if a known column stands in the key of its table."""
     place, at = body.spot_of(column)

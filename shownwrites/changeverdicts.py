@@ -1,6 +1,6 @@
 """Verdicts of changes: what can become of a change of a shown name in any store."""
 
-from shownwrites.bodies import table_of
+from shownwrites.bodies import fixed_numbers, table_of
 from shownwrites.cases import Case, Verdict
 from shownwrites.changing import check_cells
 from shownwrites.closures import closure, derivations_apart, in_class_order, store_of, store_without
@@ -128,12 +128,9 @@ def derivations_that_agree(body, count, agreed):
     """That many derivations that have the same values in just the classes that are given."""
     found = []
     for at in range(count):
-        numbers = {}
-        for members in body.classes:
-            head = members[0]
+        numbers = fixed_numbers(body)
+        for head in body.open_heads:
             equal = [other for other in range(at) if head in agreed[(other, at)]]
-            place = equal[0] if len(equal) > 0 else at
-            fixed = body.fixed(head)
-            numbers[head] = body.region(head).members(count)[place] if fixed is None else fixed
+            numbers[head] = body.region(head).members(count)[equal[0] if len(equal) > 0 else at]
         found.append(derivation_with(body, numbers))
     return found

@@ -1,6 +1,6 @@
 """Closures: the classes whose values follow from those of some columns."""
 
-from shownwrites.bodies import known_names
+from shownwrites.bodies import fixed_numbers, known_names
 from shownwrites.rows import derivation_with
 from shownwrites.stores import Store
 
@@ -32,20 +32,18 @@ def derivations_apart(body, agreed):
 
     Each of them has values of its own in all other classes.
     """
-    numbers = {head: (body.fixed(head),) for head in [members[0] for members in body.classes]}
-    for head in body.open_heads:
-        numbers[head] = body.region(head).members(len(agreed) + 1)
+    fixed = fixed_numbers(body)
+    numbers = {head: body.region(head).members(len(agreed) + 1) for head in body.open_heads}
     first = {head: numbers[head][0] for head in numbers}
     others = [{head: numbers[head][0 if head in heads else at] for head in numbers}
               for at, heads in enumerate(agreed, start=1)]
-    return [derivation_with(body, given) for given in [first, *others]]
+    return [derivation_with(body, {**fixed, **given}) for given in [first, *others]]
 
 
 def known_at_first(body, columns):
     """The heads of the columns' classes and of the fixed classes."""
     given = [body.head(column) for column in columns]
-    fixed = [members[0] for members in body.classes if body.fixed(members[0]) is not None]
-    return in_class_order(body, [*given, *fixed])
+    return in_class_order(body, [*given, *fixed_numbers(body)])
 
 
 def in_class_order(body, heads):

@@ -320,7 +320,11 @@ def some_table(dice, name):
 def some_body(dice, most=4):
     """A body with links and conditions."""
     names = dice.sample(["p", "q", "r", "s", "t", "u"], dice.randint(1, most))
-    tables = [some_table(dice, name) for name in names]
+    return body_over(dice, [some_table(dice, name) for name in names])
+
+
+def body_over(dice, tables):
+    """A body of these tables, with links and conditions."""
     columns = columns_of(tables)
     links = []
     for _ in range(dice.randint(0, 4)):

@@ -1,26 +1,31 @@
-"""The examples of the document for the modules that are written."""
+"""The examples of the document."""
 
 import unittest
 
 from shownwrites.adding import adds
+from shownwrites.alike import rules_alike, views_alike
 from shownwrites.bodies import Body
 from shownwrites.changeverdicts import change_verdict
 from shownwrites.changing import changes, totals
 from shownwrites.closures import closure, split, steps
+from shownwrites.desks import Desk
 from shownwrites.dropping import drops
 from shownwrites.edits import Edit
 from shownwrites.errors import NotPossible
 from shownwrites.exchange import exchangeable, inside_case, inside_sets
-from shownwrites.refusals import InvalidRule, NoDifference
+from shownwrites.fewest import fewest
+from shownwrites.puts import put
+from shownwrites.refusals import BadLine, InvalidRule, Kept, NoDifference, NoMeaning, NoRule
 from shownwrites.regions import Region
 from shownwrites.rows import derivations, walk
 from shownwrites.rules import Rules
 from shownwrites.stores import Store
 from shownwrites.sums import Sums
 from shownwrites.tables import Table
+from shownwrites.texts import Book
 from shownwrites.verdicts import add_verdict, drop_verdict
 from shownwrites.views import View
-from shownwrites.writes import Add, Change, Total, is_meaning, wanted
+from shownwrites.writes import Add, Change, Drop, Total, is_meaning, wanted
 
 ORDERS = Table("orders", ["id", "buyer"], ["id"])
 BUYERS = Table("buyers", ["id", "city"], ["id"])
@@ -37,6 +42,7 @@ PAIRS = View(GOODS_BODY, [("shop", "stock.shop"), ("code", "stock.code")])
 KINDS = Sums(GOODS_BODY, [("kind", "goods.kind")], [("amount", "stock.amount")])
 
 CITIES = View(Body([ORDERS, BUYERS], [("orders.buyer", "buyers.id")]), [("id", "orders.id"), ("city", "buyers.city")])
+RULES = Rules(LOTS, drop=["goods", "stock"], add=["stock"], change=[("amount", "stock.amount", "least")])
 
 
 class Examples(unittest.TestCase):
@@ -156,6 +162,52 @@ class Examples(unittest.TestCase):
         with self.assertRaises(InvalidRule) as caught:
             Rules(PAIRS, add=["stock"])
         self.assertEqual(caught.exception.part, "defaults")
+
+    def test_puts(self):
+        self.assertEqual(put(RULES, STORE, Drop((2, 7, 5, 3))).changes, (("stock", (2, 7), (2, 7, 5), None),))
+        self.assertEqual(put(RULES, STORE, Drop((1, 8, 4, 3))).changes, (("goods", (8,), (8, 3), None),))
+        with self.assertRaises(NoMeaning):
+            put(RULES, STORE, Add((2, 8, 1, 6)))
+        with self.assertRaises(NoRule) as caught:
+            put(RULES, STORE, Change((1, 7, 20, 3), "kind", 6))
+        self.assertEqual(caught.exception.kind, "change")
+
+    def test_alike(self):
+        one = View(Body([GOODS], [], [("goods.kind", ">", 2)]), [("code", "goods.code")])
+        two = View(Body([GOODS], [], [("goods.kind", ">=", 3)]), [("code", "goods.code")])
+        self.assertIs(views_alike(one, two) is None, True)
+        self.assertIs(rules_alike(Rules(PAIRS, drop=["stock"]), Rules(PAIRS, drop=["stock", "goods"])) is None, True)
+        parted = rules_alike(Rules(PAIRS, drop=["goods"]), Rules(PAIRS, drop=["goods", "stock"]))
+        self.assertEqual([parted.first is None, parted.second.deletes], [True, 1])
+
+    def test_fewest(self):
+        wish = [("buyers.city", ["buyers.city", "orders.buyer"])]
+        found = fewest(CITIES.body, ["orders.id", "buyers.city"], change=wish)
+        self.assertEqual([found.columns, [heads for heads, paper in found.papers]],
+                         [("orders.id", "orders.buyer", "buyers.city"), [("orders.id", "buyers.city")]])
+
+    def test_texts(self):
+        text = ("table goods\ncolumns code kind\nkey code\nview all\nfrom goods\nwhere goods.kind > 2\n"
+                "where goods.kind != 3\nshow code goods.code\n")
+        self.assertEqual(str(Book.read(text)), "table goods\ncolumns code kind\nkey code\nview all\nfrom goods\n"
+                                               "where goods.kind >= 4\nshow code goods.code\n")
+        with self.assertRaises(BadLine) as caught:
+            Book.read("table goods\ncolumns  code\nkey code\n")
+        self.assertEqual((caught.exception.line, caught.exception.reason), (2, "words"))
+
+    def test_desks(self):
+        book = Book([STOCK, GOODS], [("lots", LOTS), ("kinds", KINDS)],
+                    [("lots", RULES), ("kinds", Rules(KINDS, total=[("amount", "least value")]))])
+        desk = Desk(book, STORE)
+        sheet = desk.sheet("kinds")
+        sheet[(3,), "amount"] = 31
+        self.assertEqual(desk.store["stock"], [(1, 7, 20), (1, 8, 6), (2, 7, 5)])
+        self.assertEqual(desk.undo().changes, (("stock", (1, 8), (1, 8, 6), (1, 8, 4)),))
+        self.assertEqual(sheet[(3,), "amount"], 29)
+        desk.keep("lots")
+        with self.assertRaises(Kept) as caught:
+            desk.put("kinds", Total((3,), "amount", 31))
+        self.assertEqual(caught.exception.name, "lots")
 
 
 if __name__ == "__main__":

@@ -96,6 +96,8 @@ class Imports(unittest.TestCase):
             self.assertEqual(node.level, 0)
             defined = [row.name for row in TREES[node.module.removeprefix("shownwrites.")].body
                        if isinstance(row, (ast.FunctionDef, ast.ClassDef))]
+            defined += [row.targets[0].id for row in TREES[node.module.removeprefix("shownwrites.")].body
+                        if isinstance(row, ast.Assign)]
             for alias in node.names:
                 self.assertIsNone(alias.asname)
                 self.assertIn(alias.name, defined, name)
@@ -151,14 +153,14 @@ class Statements(unittest.TestCase):
                 self.assertIn(node.name.strip("_"), DOUBLE, name)
 
     def test_operators(self):
-        forms = {"contains": ["self", "x"], "getitem": ["self", "at"]}
+        forms = {"contains": ["self", "x"], "getitem": ["self", "at"], "setitem": ["self", "at", "worth"]}
         for name, node in nodes(ast.FunctionDef):
             word = node.name.strip("_")
             if node.name.startswith("__") and word not in ("init", "call"):
                 single = word in ("neg", "bool", "str", "len", "iter", "repr")
                 form = ["self"] if single else forms.get(word, ["self", "other"])
                 self.assertEqual([arg.arg for arg in node.args.args], form, (name, node.name))
-                ends = (ast.Return, ast.Raise)
+                ends = ast.Expr if word == "setitem" else (ast.Return, ast.Raise)
                 self.assertIsInstance(node.body[-1], ends, (name, node.name))
         for name, node in nodes(ast.ClassDef):
             methods = [row.name for row in node.body if isinstance(row, ast.FunctionDef)]
