@@ -44,11 +44,11 @@ def views_alike(first, second):
 def telling_derivations(body, other):
     """Derivations of the body: if the bodies or their shown classes differ, one of these tells it.
 
-    In the first one no two classes have the same number that need not have it in one of the bodies.
-    Of the others each has a number that a column cannot have in the other body.
+    In the first one no two classes have the same number, unless both are fixed to it. Each of the others
+    has a number that a column cannot have in the other body.
     """
     numbers = fixed_numbers(body)
-    used = [*list(numbers.values()), *list(fixed_numbers(other).values())]
+    used = list(numbers.values())
     for head in body.open_heads:
         numbers[head] = body.region(head).members(1, apart=used)[0]
         used.append(numbers[head])

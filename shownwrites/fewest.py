@@ -50,13 +50,13 @@ def must_heads(body, must):
 
 
 def candidates(body, shown, free):
-    """The sets of open classes with those that must be shown: small ones first, then by their places."""
-    found = []
-    for size in range(len(free) + 1):
-        places = sorted([[body.open_heads.index(head) for head in in_class_order(body, [*shown, *some])]
-                         for some in subsets(free, size)])
-        found.extend([tuple([body.open_heads[place] for place in some]) for some in places if len(some) > 0])
-    return found
+    """The sets of open classes with those that must be shown: small ones first, then by their places.
+
+    The free classes alone are in this order already, and what all sets have in common does not change it.
+    """
+    chosen = [some for size in range(len(free) + 1) for some in subsets(free, size)]
+    found = [in_class_order(body, [*shown, *some]) for some in chosen]
+    return [heads for heads in found if len(heads) > 0]
 
 
 def paper_against(body, heads, names, change):

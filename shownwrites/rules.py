@@ -81,8 +81,8 @@ def are_changes(view, changes):
     known = are_columns_of(view.body, [cell for _, cell, _ in changes])
     if not known or any([is_key_column(view.body, cell) for _, cell, _ in changes]):
         return False
-    picked = all([pick in PICKS for _, _, pick in changes])
-    return picked and are_distinct(names) and all([name in open_names for name in names])
+    told = all([pick in PICKS for _, _, pick in changes])
+    return told and are_distinct(names) and all([name in open_names for name in names])
 
 
 def are_totals(view, words):

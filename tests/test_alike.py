@@ -150,6 +150,19 @@ class Views(unittest.TestCase):
         self.check(View(body, [*keys, ("n", "a.x")]), View(body, [*keys, ("n", "b.y")]), False)
         self.check(View(body, keys), View(body, [("k", "b.k"), ("l", "a.k")]), False)
 
+    def test_numbers_that_could_be_equal_by_chance(self):
+        ab = plain_tables("ab")
+        keys = [("k", "a.k"), ("l", "b.k")]
+        for number in range(-1, 7):
+            fixed = [("a.y", "=", number)]
+            body = Body(ab, [("a.x", "b.x")], fixed)
+            self.check(View(body, [*keys, ("n", "a.y")]), View(body, [*keys, ("n", "a.x")]), False)
+            self.check(View(body, keys), View(Body(ab, [("a.x", "b.x")]), keys), False)
+            self.check(View(body, keys), View(Body(ab, [("a.x", "b.x")], [("a.y", "!=", number)]), keys), False)
+            one = Sums(body, [("n", "a.y")], [])
+            for column in ("a.k", "a.x", "b.k", "b.y"):
+                self.check(one, Sums(body, [("n", column)], []), False)
+
     def test_sums(self):
         turned = Body([GOODS, STOCK], [("goods.code", "stock.code")])
         self.check(KINDS, Sums(turned, [("kind", "goods.kind")], [("amount", "stock.amount")]), True)
@@ -298,7 +311,8 @@ class TwoRules(unittest.TestCase):
                  View(BODY, [("shop", "stock.code"), ("code", "stock.shop")]),
                  Sums(BODY, [("shop", "stock.shop"), ("code", "stock.code")], []),
                  Sums(BODY, [("kind", "goods.code")], [("amount", "stock.amount")]),
-                 Sums(BODY, [("kind", "stock.shop")], [("amount", "goods.kind")])]
+                 Sums(BODY, [("kind", "stock.shop")], [("amount", "goods.kind")]),
+                 Sums(BODY, [("kind", "stock.shop")], [("amount", "stock.amount")])]
         for at, first in enumerate(lists):
             for other, second in enumerate(lists):
                 if at != other:

@@ -169,6 +169,76 @@ class Statements(unittest.TestCase):
                 self.assertIn("__iter__", methods, node.name)
 
 
+class Tries(unittest.TestCase):
+    def test_own_errors_alone_are_caught(self):
+        own = {node.name for name, node in nodes(ast.ClassDef) if name in ("errors", "refusals")}
+        for name, node in nodes(ast.ExceptHandler):
+            caught = node.type.elts if isinstance(node.type, ast.Tuple) else [node.type]
+            self.assertTrue({kind.id for kind in caught} <= own, (name, node.lineno))
+
+    def test_finally(self):
+        def check(rows, name):
+            for row in rows:
+                self.assertIsInstance(row, (ast.If, ast.Assign), (name, row.lineno))
+                if isinstance(row, ast.If):
+                    self.assertIsInstance(row.test.left, ast.Name, (name, row.lineno))
+                    self.assertIsInstance(row.test.ops[0], (ast.Is, ast.IsNot), (name, row.lineno))
+                    check([*row.body, *row.orelse], name)
+                else:
+                    given = row.value.elts if isinstance(row.value, ast.Tuple) else [row.value]
+                    for value in given:
+                        self.assertIsInstance(value, ast.Name, (name, row.lineno))
+        for name, node in nodes(ast.Try):
+            check(node.finalbody, name)
+
+
+class Operators(unittest.TestCase):
+    """What operators and properties run changes only what it creates itself."""
+
+    def reached(self):
+        """The functions that operators and properties run, as far as their names can tell."""
+        functions = {}
+        for name, node in nodes(ast.FunctionDef):
+            functions.setdefault(node.name, []).append(node)
+        changing = ("__init__", "__call__", "__iadd__", "__isub__", "__setitem__")
+        left = [node for name, node in nodes(ast.FunctionDef)
+                if (node.name.startswith("__") and node.name not in changing)
+                or any(isinstance(mark, ast.Name) and mark.id == "property" for mark in node.decorator_list)]
+        found = []
+        while left:
+            node = left.pop()
+            if node not in found:
+                found.append(node)
+                for call in ast.walk(node):
+                    if isinstance(call, ast.Call):
+                        word = getattr(call.func, "id", getattr(call.func, "attr", None))
+                        left += functions.get(word, [])
+        return found
+
+    def created(self, node):
+        """The names of lists and dicts that the function creates in a form that L5 allows."""
+        good = []
+        for row in ast.walk(node):
+            if isinstance(row, ast.Assign) and isinstance(row.targets[0], ast.Name):
+                if isinstance(row.value, (ast.List, ast.Dict, ast.ListComp)) or (
+                        called(row.value) in ("list", "dict", "sorted")):
+                    good.append(row.targets[0].id)
+        return good
+
+    def test_changes(self):
+        changing = {"append", "extend", "insert", "pop", "remove", "clear", "update", "setdefault", "reverse"}
+        found = self.reached()
+        self.assertGreater(len(found), 60)
+        for node in found:
+            changed = [row.value for row in ast.walk(node) if isinstance(row, (ast.Subscript, ast.Attribute))
+                       and isinstance(row.ctx, (ast.Store, ast.Del))]
+            changed += [row.func.value for row in ast.walk(node) if isinstance(row, ast.Call)
+                        and isinstance(row.func, ast.Attribute) and row.func.attr in changing]
+            for value in changed:
+                self.assertIsInstance(value, ast.Name, (node.name, node.lineno))
+                self.assertIn(value.id, self.created(node), (node.name, node.lineno))
+
+
 class Expressions(unittest.TestCase):
     def test_not_allowed(self):
         barred = (ast.Set, ast.SetComp, ast.GeneratorExp, ast.NamedExpr, ast.Div, ast.MatMult, ast.Await,

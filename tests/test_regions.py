@@ -4,7 +4,7 @@ import itertools
 import unittest
 
 from shownwrites.errors import BadSign, TooFew
-from shownwrites.regions import Region
+from shownwrites.regions import Region, member_outside
 
 BIG = 10 ** 40
 WINDOW = range(-9, 10)
@@ -190,6 +190,18 @@ class Relations(unittest.TestCase):
             self.assertIs(region == other, False)
             self.assertIs(region != other, True)
             self.assertIs(other == region, False)
+
+
+class Outside(unittest.TestCase):
+    def test_a_member_of_the_first_alone(self):
+        ends = (None, -2, 0, 1, 3)
+        regions = [Region(low, high, without) for low, high in itertools.product(ends, ends)
+                   for without in ((), (0,), (-1, 1, 2))]
+        for first, second in itertools.product(regions, repeat=2):
+            number = member_outside(first, second)
+            self.assertIs(number is None, first.within(second))
+            if number is not None:
+                self.assertTrue(number in first and number not in second)
 
 
 class Texts(unittest.TestCase):

@@ -102,6 +102,13 @@ class Answers(unittest.TestCase):
             view = View(body, [(f"n{at}", head) for at, head in enumerate(shown)])
             check_verdict(self, view, add_verdict(view, body.names), answers_41(view, body.names), body.names)
 
+    def test_adds_beside_a_fixed_key(self):
+        # The fixed class is shown, but stands in the key of one table only: it does not count.
+        t, u = Table("t", ["a"], ["a"]), Table("u", ["a", "k"], ["a", "k"])
+        body = Body([t, u], [("t.a", "u.a")], [("u.k", "=", 1)])
+        view = View(body, [("a", "t.a"), ("k", "u.k")])
+        check_verdict(self, view, add_verdict(view, ["u", "t"]), (NO, YES, NO), ["u", "t"])
+
     def test_all_fixed(self):
         body = Body([BUYERS], [], [("buyers.id", "=", 1), ("buyers.city", "=", 2)])
         view = View(body, [("city", "buyers.city")])
