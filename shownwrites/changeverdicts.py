@@ -15,10 +15,11 @@ def change_verdict(view, name, cells):
     check_cells(view.body, cells)
     if view.body.fixed(head) is not None:
         return Verdict(None, None, None)
-    used = sorted(set(cells))
-    pairs = [[first, second] for at, first in enumerate(used) for second in used[at:]]
-    some = first_case(view, name, [[cell] for cell in used])
-    return Verdict(change_to_new_number(view, name, used), some, first_case(view, name, pairs))
+    # Only cells that can be edited in some store at all can be edited in a store with other choices.
+    working = [cell for cell in sorted(set(cells)) if case_with(view, name, [cell]) is not None]
+    pairs = [[first, second] for at, first in enumerate(working) for second in working[at:]]
+    some = first_case(view, name, [[cell] for cell in working])
+    return Verdict(change_to_new_number(view, name, cells), some, first_case(view, name, pairs))
 
 
 def first_case(view, name, tried):
