@@ -107,7 +107,7 @@ def total_without_meaning(sums, name, column):
     reached = closure(body, body.heads_of(table_of(column)))
     number = member_outside(Region(), body.region(column))
     if len(reached) < len(body.classes):
-        # The table has one row, which stands in both derivations: no odd difference is its own.
+        # The table has one row. It stands in several derivations, so it cannot take a difference of 1 alone.
         found = derivations_apart(body, [reached])
         store = store_of(body, found)
         number = present_total(sums, store, sums.group_of(found[0]), name) + 1

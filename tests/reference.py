@@ -323,17 +323,24 @@ def some_body(dice, most=4):
     return body_over(dice, [some_table(dice, name) for name in names])
 
 
-def body_over(dice, tables):
-    """A body of these tables, with links and conditions."""
+def some_links(dice, tables, most):
+    """At most so many links, which a body of these tables can have."""
     columns = columns_of(tables)
     links = []
-    for _ in range(dice.randint(0, 4)):
+    for _ in range(most):
         link = (dice.choice(columns), dice.choice(columns))
         try:
             Body(tables, [*links, link])
             links.append(link)
         except SameTable:
             pass
+    return links
+
+
+def body_over(dice, tables):
+    """A body of these tables, with links and conditions."""
+    columns = columns_of(tables)
+    links = some_links(dice, tables, dice.randint(0, 4))
     conditions = []
     for _ in range(dice.choice([0, 0, 1, 2, 3])):
         condition = (dice.choice(columns), dice.choice(["=", "!=", ">", ">=", "<", "<="]),
@@ -446,16 +453,7 @@ def sparse_view(dice):
     """A view of two to four tables with many links that shows little more than it needs."""
     names = dice.sample("abcd", dice.choice([2, 3, 3, 4]))
     tables = [Table(name, ["k", *dice.choice(["x", "xy"])], ["k"]) for name in names]
-    columns = columns_of(tables)
-    links = []
-    for _ in range(dice.randint(1, 5)):
-        link = (dice.choice(columns), dice.choice(columns))
-        try:
-            Body(tables, [*links, link])
-            links.append(link)
-        except SameTable:
-            pass
-    body = Body(tables, links)
+    body = Body(tables, some_links(dice, tables, dice.randint(1, 5)))
     shown = dice.sample(body.open_heads, len(body.open_heads))
     for head in list(shown):
         rest = [other for other in shown if other != head]

@@ -127,8 +127,11 @@ class DrawnStores(unittest.TestCase):
     def test_no_store_has_what_a_verdict_rules_out(self):
         dice = dice_of(152)
         held = {}
-        for number in range(360):
-            view = drawn_view(dice, number)
+        lone = View(Body(plain_tables("a"), [], [("a.y", "!=", 1)]), [("k", "a.k"), ("x", "a.x"), ("y", "a.y")])
+        both = View(Body([Table("b", ["k", "v"], ["k"]), Table("a", ["k", "w"], ["k"])], [("b.k", "a.k")]),
+                    [("k", "b.k"), ("v", "b.v"), ("w", "a.w")])
+        for number in range(400):
+            view = (lone, both)[number // 10 % 2] if number % 10 == 0 else drawn_view(dice, number)
             cells = cells_of(view.body)
             if number % 2:
                 cells = dice.sample(cells, min(len(cells), 1))
@@ -144,7 +147,7 @@ class DrawnStores(unittest.TestCase):
                             held[count] = held.get(count, 0) + 1
                             self.assertFalse((len(found) == 0, len(found) > 0, len(found) > 1)[count])
         for count in range(3):
-            self.assertGreater(held.get(count, 0), 3, held)
+            self.assertGreater(held.get(count, 0), 10, held)
 
 
 class Faults(unittest.TestCase):

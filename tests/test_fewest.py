@@ -141,11 +141,13 @@ class Answers(Held):
             view = (sparse_view(dice), dice.choice(linked_views()))[number % 2]
             body = some_body(dice, 4) if number % 4 == 0 else view.body
             heads = list(body.open_heads)
-            if not 0 < len(heads) <= 6:
+            if not 0 < len(heads) <= 8:
                 continue
             must = dice.sample(heads, dice.randint(0, len(heads)))
             if number % 4 and number % 3:
                 must = [head for head in view.heads if head in heads]
+            if len(heads) > 6:
+                must = dice.sample(heads, dice.randint(len(heads) - 3, len(heads)))
             columns = [dice.choice([members for members in body.classes if head in members][0]) for head in must]
             add = dice.choice([None, None, [], list(body.names), dice.sample(body.names, 1) * 2])
             cells = cells_of(body)
@@ -159,7 +161,7 @@ class Answers(Held):
             sizes[len(heads)] = sizes.get(len(heads), 0) + 1
         for fault in ("split", "add", "change"):
             self.assertGreater(faults.get(fault, 0), 5, faults)
-        for size in range(1, 7):
+        for size in range(1, 9):
             self.assertGreater(sizes.get(size, 0), 3, sizes)
 
     def test_eight_open_classes(self):
