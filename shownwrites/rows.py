@@ -5,7 +5,7 @@ from shownwrites.errors import NoTable, NotShown, Unlike
 
 def derivations(body, store):
     """The derivations of the body in the store, in ascending order of their keys."""
-    return list(walk(body, store))
+    return joined(body, table_rows(body, store))
 
 
 def walk(body, store):
@@ -26,8 +26,7 @@ def numbers_at(derivation, spots):
 
 def deriving(body, store, name, row):
     """The derivations in which the table has this row, in the order of their keys."""
-    lists = lists_with(body, store, name, row)
-    return list(matched(body, lists))
+    return joined(body, lists_with(body, store, name, row))
 
 
 def stands_once(body, store, name, row):
@@ -56,7 +55,7 @@ def shown_by(body, store, heads, row):
     if len(row) != len(heads):
         raise NotShown(row)
     lists = agreeing_lists(body, store, {head: row[at] for at, head in enumerate(heads)})
-    found = list(matched(body, lists))
+    found = joined(body, lists)
     if len(found) == 0:
         raise NotShown(row)
     return found
@@ -92,16 +91,29 @@ def table_rows(body, store):
     return [store[name] for name in body.names]
 
 
+def joined(body, lists):
+    """The derivations whose rows stand in the lists, one for each table."""
+    groups, owners, trees = linked_trees(body, lists)
+    return joined_behind(lists, groups, owners, trees, ())
+
+
 def matched(body, lists):
-    """A generator of the derivations whose rows stand in the lists, one for each table."""
+    """A generator of the same derivations in the same order, for those who may not need all of them."""
+    groups, owners, trees = linked_trees(body, lists)
+    yield from branches(lists, groups, owners, trees, ())
+
+
+def linked_trees(body, lists):
+    """The rows of each table by their links, the number of its part, and a tree of each part."""
     links = [linking_places(body, name) for name in body.names]
     groups = [rows_by_links(body, place, rows, links[place]) for place, rows in enumerate(lists)]
     parts = linked_parts(links)
     trees = [tree_of_part(links, groups, part) for part in parts]
     owners = {place: at for at, part in enumerate(parts) for place in part}
-    # Without this, a part without rows would be found anew behind each choice of the others.
-    if all([len(tree) > 0 for tree in trees]):
-        yield from branches(lists, groups, owners, trees, ())
+    # Otherwise, a part without rows would be found anew behind each choice of the others.
+    if any([len(tree) == 0 for tree in trees]):
+        return (groups, owners, [{} for _ in trees])
+    return (groups, owners, trees)
 
 
 def linking_places(body, name):
@@ -202,16 +214,35 @@ def tree_of(spots, found):
     return {values: tree_of(spots[1:], groups[values]) for values in groups}
 
 
-def branches(lists, groups, owners, trees, chosen):
-    """A generator of the derivations that begin with the chosen rows."""
+def choices(group, tree):
+    """The numbers of the rows that a tree begins with, ascending, each with the tree below it."""
+    values_of = {number: values for values in tree for number in group[values]}
+    return [(number, tree[values_of[number]]) for number in sorted(list(values_of))]
+
+
+def joined_behind(lists, groups, owners, trees, chosen):
+    """The derivations that begin with the chosen rows, of which at least one is missing."""
     place = len(chosen)
-    if place == len(lists):
-        yield chosen
+    owner = owners[place]
+    pairs = choices(groups[place], trees[owner])
+    if place + 1 == len(lists):
+        return [(*chosen, lists[place][number]) for number, _ in pairs]
+    found = []
+    for number, tree in pairs:
+        deeper = [*trees[:owner], tree, *trees[owner + 1:]]
+        longer = (*chosen, lists[place][number])
+        found.extend(joined_behind(lists, groups, owners, deeper, longer))
+    return found
+
+
+def branches(lists, groups, owners, trees, chosen):
+    """A generator of the same derivations; what is behind a choice of a row is found when it is reached."""
+    place = len(chosen)
+    if place + 1 == len(lists):
+        yield from joined_behind(lists, groups, owners, trees, chosen)
         return
-    tree = trees[owners[place]]
-    values_of = {number: values for values in tree for number in groups[place][values]}
-    for number in sorted(list(values_of)):
-        deeper = [*trees]
-        deeper[owners[place]] = tree[values_of[number]]
+    owner = owners[place]
+    for number, tree in choices(groups[place], trees[owner]):
+        deeper = [*trees[:owner], tree, *trees[owner + 1:]]
         longer = (*chosen, lists[place][number])
         yield from branches(lists, groups, owners, deeper, longer)

@@ -540,6 +540,17 @@ def write_by(shown, store, edit):
     return Total(gone[0][0], name, pairs[at[0]][1])
 
 
+def contents_of(value):
+    """The value with all objects of the package replaced by what they hold."""
+    if isinstance(value, (list, tuple)):
+        return tuple(contents_of(one) for one in value)
+    if isinstance(value, dict):
+        return {key: contents_of(one) for key, one in value.items()}
+    if type(value).__module__.startswith("shownwrites"):
+        return (type(value).__name__, contents_of(vars(value)))
+    return value
+
+
 def dice_of(number):
     """A source of choices that are the same in each run."""
     return random.Random(number)

@@ -15,7 +15,7 @@ from shownwrites.tables import Table
 from shownwrites.texts import Book
 from shownwrites.views import View
 from shownwrites.writes import Add, Change, Clear, Drop, Total, wanted
-from tests.reference import dice_of, shown_rows, some_edit, some_store, some_write, store_after, write_by
+from tests.reference import contents_of, dice_of, plain_tables, shown_rows, some_edit, some_store, some_write, store_after, write_by
 from tests.slow_rules import put_of
 from tests.slow_texts import some_book
 
@@ -424,6 +424,113 @@ class Sheets(unittest.TestCase):
         rows = second.listed()
         rows.clear()
         self.assertEqual(len(first.listed()), 3)
+
+
+class Reading(unittest.TestCase):
+    """What only reads a sheet leaves the desk, its store and its history as they were."""
+
+    def desk_with_history(self):
+        """A desk with a kept view, with edits that are done and an edit that is taken back."""
+        desk = Desk(BOOK, STORE)
+        desk.put("lots", Drop((2, 7, 5, 3)))
+        desk.apply(MORE)
+        desk.keep("all")
+        desk.apply(Edit())
+        desk.put("kinds", Total((3,), "amount", 30))
+        desk.undo()
+        return desk
+
+    def told(self, call):
+        """What the call returns, or the error that it raises with what it holds."""
+        try:
+            return call()
+        except (NotShown, NoName) as error:
+            return (type(error), vars(error))
+
+    def check(self, name, read, expected):
+        desk = self.desk_with_history()
+        sheet = desk.sheet(name)
+        store, state, held = desk.store, state_of(desk), contents_of((vars(desk), vars(sheet)))
+        for _ in range(3):
+            self.assertEqual(self.told(lambda: read(sheet)), expected)
+            self.assertIs(desk.store, store)
+            self.assertEqual(state_of(desk), state)
+            self.assertEqual(contents_of((vars(desk), vars(sheet))), held)
+        self.assertEqual(store, Store([STOCK, GOODS], {"stock": [(1, 7, 20), (1, 8, 4)],
+                                                       "goods": [(5, 5), (7, 3), (8, 3), (9, 6)]}))
+        self.assertEqual(desk.redo(), Edit([("stock", (1, 8), (1, 8, 4), (1, 8, 10))]))
+        self.assertEqual([desk.undo().sets, desk.undo()], [1, Edit()])
+
+    def test_item_of_a_view(self):
+        for name, number in (("shop", 1), ("code", 8), ("amount", 4), ("kind", 3)):
+            self.check("lots", lambda sheet, of=name: sheet[(1, 8, 4, 3), of], number)
+        for row in ((2, 7, 5, 3), (1, 8), ()):
+            self.check("lots", lambda sheet, of=row: sheet[of, "none"], (NotShown, {"row": row}))
+        self.check("lots", lambda sheet: sheet[(1, 8, 4, 3), "count"], (NoName, {"name": "count"}))
+
+    def test_item_of_sums(self):
+        for name, number in (("amount", 24), ("count", 2)):
+            self.check("kinds", lambda sheet, of=name: sheet[(3,), of], number)
+        for group in ((5,), (3, 3), ()):
+            self.check("kinds", lambda sheet, of=group: sheet[of, "none"], (NotShown, {"row": group}))
+        self.check("kinds", lambda sheet: sheet[(3,), "kind"], (NoName, {"name": "kind"}))
+
+    def test_contained(self):
+        for row, shown in (((1, 8, 4, 3), True), ((1, 7, 20, 3), True), ((2, 7, 5, 3), False), ((1,), False)):
+            self.check("lots", lambda sheet, of=row: of in sheet, shown)
+        for group, shown in (((3,), True), ((6,), False), ((3, 2, 24), False), ((), False)):
+            self.check("kinds", lambda sheet, of=group: of in sheet, shown)
+
+    def test_length(self):
+        for name, many in (("lots", 2), ("kinds", 1), ("all", 4)):
+            self.check(name, len, many)
+
+    def test_drawn_books(self):
+        dice = dice_of(213)
+        seen = {}
+        for _ in range(150):
+            book = some_book(dice)
+            desk = Desk(book, some_store(dice, book.tables, 3, 0))
+            edits = [some_edit(dice, desk.store) for _ in range(4)]
+            fitting = [edit for edit in edits if store_after(desk.store, edit) is not None]
+            for edit in [Edit(), *fitting[:1]]:
+                desk.apply(edit)
+                desk.apply(-edit)
+                desk.undo()
+            for name, shown in book.views:
+                sheet = desk.sheet(name)
+                store, held = desk.store, contents_of((vars(desk), vars(sheet)))
+                rows = shown_rows(shown, store)
+                self.assertEqual(len(sheet), len(rows))
+                if isinstance(shown, View):
+                    numbers = {row: dict(zip(shown.names, row)) for row in rows}
+                else:
+                    numbers = {group: {"count": count, **dict(zip(shown.total_names, totals))}
+                               for group, count, totals in rows}
+                for row in numbers:
+                    self.assertEqual([row in sheet, (*row, 0) in sheet], [True, False])
+                    self.assertEqual({name: sheet[row, name] for name in numbers[row]}, numbers[row])
+                self.assertIs(desk.store, store)
+                self.assertEqual(contents_of((vars(desk), vars(sheet))), held)
+                seen[type(shown)] = seen.get(type(shown), 0) + len(rows)
+        self.assertGreater(min(seen[View], seen[Sums]), 50)
+
+    def test_soon(self):
+        """Trying all combinations of rows would never end here."""
+        tables = plain_tables("abcdef")
+        links = [("a.x", "d.k"), ("b.x", "e.k"), ("c.x", "f.k")]
+        shown = [("a", "a.k"), ("b", "b.k"), ("c", "c.k")]
+        many = 60
+        for far, count in ((many, 0), (many - 1, 1)):
+            rows = {name: [(n, n, n) for n in range(many)] for name in "def"}
+            rows.update({name: [(n, n + far, n) for n in range(many)] for name in "abc"})
+            view = View(Body(tables, links), shown)
+            sums = Sums(view.body, [("b", "b.k")], [("total", "a.y")])
+            desk = Desk(Book(tables, [("view", view), ("sums", sums)]), Store(tables, rows))
+            view_sheet, sums_sheet = desk.sheet("view"), desk.sheet("sums")
+            self.assertEqual([len(view_sheet), len(sums_sheet)], [count, count])
+            self.assertEqual([(0, 0, 0) in view_sheet, (0,) in sums_sheet], [count == 1, count == 1])
+        self.assertEqual([view_sheet[(0, 0, 0), "b"], sums_sheet[(0,), "count"]], [0, 1])
 
 
 class PlainDesk:

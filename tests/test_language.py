@@ -215,6 +215,14 @@ class Operators(unittest.TestCase):
                         left += functions.get(word, [])
         return found
 
+    def test_no_generator_is_run(self):
+        """A generator changes what it holds with every step."""
+        found = self.reached()
+        self.assertTrue({"listed", "rows_of", "rows", "derivations"} <= {node.name for node in found})
+        for node in found:
+            for row in ast.walk(node):
+                self.assertNotIsInstance(row, (ast.Yield, ast.YieldFrom), (node.name, node.lineno))
+
     def created(self, node):
         """The names of lists and dicts that the function creates in a form that L5 allows."""
         good = []

@@ -23,6 +23,7 @@ from shownwrites.texts import Book
 from shownwrites.verdicts import add_verdict, clear_verdict, drop_verdict, total_verdict
 from shownwrites.views import View
 from shownwrites.writes import Add, wanted
+from tests.reference import contents_of
 
 STOCK = Table("stock", ("shop", "code", "amount"), ("shop", "code"))
 GOODS = Table("goods", ("code", "kind"), ("code",))
@@ -35,17 +36,6 @@ RULES = Rules(PAIRS, drop=["stock"])
 BOOK = Book([STOCK, GOODS], [("pairs", PAIRS), ("kinds", KINDS)], [("pairs", RULES)])
 DESK = Desk(BOOK, STORE)
 NAMES = ["stock", "goods"]
-
-
-def plain(value):
-    """The value with all objects of the package replaced by what they hold."""
-    if isinstance(value, (list, tuple)):
-        return tuple(plain(one) for one in value)
-    if isinstance(value, dict):
-        return {key: plain(one) for key, one in value.items()}
-    if type(value).__module__.startswith("shownwrites"):
-        return (type(value).__name__, plain(vars(value)))
-    return value
 
 
 class Returned(unittest.TestCase):
@@ -70,10 +60,10 @@ class Returned(unittest.TestCase):
                      lambda: DESK.rows_of("kinds"), lambda: DESK.sheet("pairs").listed()):
             found = call()
             self.assertIs(type(found), list)
-            expected = plain(found)
+            expected = contents_of(found)
             found.append("more")
             found[0:1] = []
-            self.assertEqual(plain(call()), expected)
+            self.assertEqual(contents_of(call()), expected)
 
     def test_lists_of_one_object_are_its_own(self):
         verdict = drop_verdict(PAIRS, NAMES)
@@ -109,10 +99,10 @@ class Passed(unittest.TestCase):
                 (lambda some: Book(some[0], some[1], some[2]), [[STOCK, GOODS], [("pairs", PAIRS)], [("pairs", RULES)]]),
                 (lambda some: view_of(BODY, some[0]), [["stock.code", "stock.shop"]]),
                 (lambda some: Add(some[0]), [[1, 2]])):
-            expected = plain(make(tuple(given)))
+            expected = contents_of(make(tuple(given)))
             made = make(given)
             self.spoil(given)
-            self.assertEqual(plain(made), expected)
+            self.assertEqual(contents_of(made), expected)
 
     def test_functions_leave_lists_as_they_are(self):
         cells = ["goods.kind", "stock.amount", "goods.kind"]
